@@ -1,0 +1,1 @@
+"""Trains of wheels that slip, as far as they can turn."""

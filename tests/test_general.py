@@ -1,0 +1,230 @@
+"""The rules that hold for every function."""
+
+import copy
+import unittest
+
+from bothwheels import fractions, wheels
+from bothwheels.errors import Unfit
+from tests import test_interface
+from tests.calls import CALLS, NO_FRACTIONS, NO_TRAINS, NO_WHEELS, UNFIT, UNFIT_AHEAD
+from tests.examples import same
+
+
+def with_lists(value, depth):
+    """value with lists for its tuples, but only those so many levels deep; None: at every depth."""
+    if not isinstance(value, (list, tuple)):
+        return value
+    further = None if depth is None else depth - 1
+    inner = [with_lists(own, further) for own in value]
+    return inner if depth is None or depth == 0 else type(value)(inner)
+
+
+def with_tuples(value):
+    """value with tuples for its lists at every depth."""
+    if not isinstance(value, (list, tuple)):
+        return value
+    return tuple([with_tuples(own) for own in value])
+
+
+def forms(value):
+    """value with lists for tuples at one depth, at every depth, and with tuples for lists."""
+    return [with_lists(value, 0), with_lists(value, 1), with_lists(value, None), with_tuples(value)]
+
+
+class Calls(unittest.TestCase):
+    def each(self):
+        """CALLS, but for those functions for which a list is no tuple."""
+        return [call for call in CALLS if call[1] != ("thing",)]
+
+    def test_each_function_is_called(self):
+        called = {(function.__module__, function.__name__) for function, names, values in CALLS}
+        for module, functions in test_interface.FUNCTIONS.items():
+            for name in functions:
+                self.assertIn(("bothwheels." + module, name), called)
+
+    def test_by_names(self):
+        for function, names, values in CALLS:
+            with self.subTest(function=function.__name__, values=values):
+                told = function(*copy.deepcopy(values))
+                self.assertTrue(same(function(**dict(zip(names, values))), told))
+                self.assertTrue(same(function(**dict(reversed(list(zip(names, values))))), told))
+
+    def test_again(self):
+        for function, names, values in CALLS:
+            with self.subTest(function=function.__name__, values=values):
+                self.assertTrue(same(function(*values), function(*values)))
+
+    def test_lists_for_tuples_and_tuples_for_lists(self):
+        for function, names, values in self.each():
+            told = function(*values)
+            for place, value in enumerate(values):
+                for form in forms(value):
+                    given = values[:place] + (form,) + values[place + 1:]
+                    with self.subTest(function=function.__name__, given=given):
+                        self.assertTrue(same(function(*given), told))
+            with self.subTest(function=function.__name__, values=values):
+                self.assertTrue(same(function(*[with_lists(value, None) for value in values]), told))
+
+    def test_arguments_stay_unchanged(self):
+        for function, names, values in CALLS:
+            for given in (list(values), [with_lists(value, None) for value in values]):
+                before = copy.deepcopy(given)
+                function(*given)
+                with self.subTest(function=function.__name__, values=values):
+                    self.assertTrue(same(given, before))
+
+    def test_arguments_of_refused_calls_stay_unchanged(self):
+        for function, values, place, wrong in UNFIT:
+            for bad in wrong:
+                if not isinstance(bad, (list, tuple)) or any(own is bad for own in bad):
+                    continue
+                given = [with_lists(value, None) for value in values]
+                given[place] = with_lists(bad, None)
+                before = copy.deepcopy(given)
+                with self.subTest(function=function.__name__, given=before):
+                    with self.assertRaises(Unfit):
+                        function(*given)
+                    self.assertTrue(same(given, before))
+
+    def test_returned_lists_are_new(self):
+        lists = 0
+        for function, names, values in CALLS:
+            told = function(*values)
+            if isinstance(told, list):
+                lists += 1
+                before = list(told)
+                told.append("mine")
+                told.reverse()
+                with self.subTest(function=function.__name__):
+                    self.assertTrue(same(function(*values), before))
+        self.assertGreater(lists, 1)
+
+    def test_what_is_returned_holds_no_list(self):
+        for function, names, values in self.each():
+            told = function(*[with_lists(value, None) for value in values])
+            inner = told if isinstance(told, (list, tuple)) else ()
+            with self.subTest(function=function.__name__, values=values):
+                self.assertEqual(isinstance(told, list), function.__name__ in ("pieces", "between"))
+                self.assertFalse([own for own in inner if isinstance(own, list)])
+
+    def test_what_is_returned_may_be_passed_in_again(self):
+        for function, names, values in CALLS:
+            told = function(*[with_lists(value, None) for value in values])
+            if isinstance(told, tuple) and function.__name__ in ("put_together", "power", "finer", "from_elsewhere"):
+                self.assertEqual(wheels.leads(told, len(told)), told[0] + len(told))
+            if isinstance(told, tuple) and function.__module__.endswith("fractions"):
+                self.assertEqual(fractions.added(told, (0, 1)), told)
+
+
+class WrongValues(unittest.TestCase):
+    def test_the_calls_are_fine_but_for_them(self):
+        for function, values, place, wrong in UNFIT:
+            with self.subTest(function=function.__name__, values=values):
+                function(*values)
+
+    def test_each_such_argument_is_tried(self):
+        tried = {(function, place) for function, values, place, wrong in UNFIT}
+        capitals = ("one", "other", "fraction", "fractions", "wheel", "train", "pieces")
+        for function, names, values in CALLS:
+            for place, name in enumerate(names):
+                if name in capitals:
+                    self.assertIn((function, place), tried)
+
+    def test_unfit(self):
+        for function, values, place, wrong in UNFIT + UNFIT_AHEAD:
+            for bad in wrong:
+                given = values[:place] + (bad,) + values[place + 1:]
+                with self.subTest(function=function.__name__, place=place, bad=repr(bad)):
+                    with self.assertRaises(Unfit) as caught:
+                        function(*given)
+                    self.assertIs(type(caught.exception), Unfit)
+
+    def test_unfit_as_lists(self):
+        for function, values, place, wrong in UNFIT:
+            for bad in wrong:
+                if isinstance(bad, tuple):
+                    given = values[:place] + (with_lists(bad, None),) + values[place + 1:]
+                    with self.subTest(function=function.__name__, place=place, bad=bad):
+                        with self.assertRaises(Unfit):
+                            function(*given)
+
+    def test_unfit_by_name(self):
+        names_of = {function: names for function, names, values in CALLS}
+        for function, values, place, wrong in UNFIT:
+            given = dict(zip(names_of[function], values))
+            given[names_of[function][place]] = None
+            with self.subTest(function=function.__name__, place=place), self.assertRaises(Unfit):
+                function(**given)
+
+    def test_all_arguments_wrong(self):
+        for function, values, place, wrong in UNFIT:
+            with self.subTest(function=function.__name__), self.assertRaises(Unfit):
+                function(*[None for value in values])
+
+
+class Things(unittest.TestCase):
+    """A parameter called thing: True exactly for what is stated, whatever else it is."""
+
+    JUDGES = (
+        (fractions.is_fraction, ((1, 2), (0, 1), (-3, 2), (7, 1)), NO_FRACTIONS),
+        (wheels.is_wheel, ((1, 1, 3), (5,), (-2, 0, 1), (0, 0, 0), (0, 0, 3)), NO_WHEELS),
+        (wheels.is_train, (((1, 1, 3), (0, 2, 3)), ((5,),), ((0, 0), (0, 2))), NO_TRAINS),
+    )
+
+    def deep(self):
+        """Values nested up to twelve levels deep."""
+        found = []
+        for inner in (1, True, None, "a", (1, 2), [1, 2], (1, 1, 3), ()):
+            for level in range(1, 12):
+                inner = (inner,) if level % 2 else [inner, inner]
+                if level > 2:
+                    found.append(inner)
+        return found
+
+    def test_what_is(self):
+        for judge, good, bad in self.JUDGES:
+            for thing in good:
+                with self.subTest(judge=judge.__name__, thing=thing):
+                    self.assertIs(judge(thing), True)
+                    self.assertIs(judge(thing=thing), True)
+
+    def test_what_is_not(self):
+        for judge, good, bad in self.JUDGES:
+            for thing in bad + self.deep():
+                with self.subTest(judge=judge.__name__, thing=repr(thing)):
+                    self.assertIs(judge(thing), False)
+
+    def test_a_list_is_no_tuple(self):
+        for judge, good, bad in self.JUDGES:
+            for thing in good:
+                for form in (with_lists(thing, 0), with_lists(thing, None)):
+                    with self.subTest(judge=judge.__name__, thing=form):
+                        self.assertIs(judge(form), False)
+        self.assertIs(wheels.is_train(([1, 1, 3], (0, 2, 3))), False)
+        self.assertIs(wheels.is_train(((1, 1, 3), [0, 2, 3])), False)
+
+    def test_true_is_no_number(self):
+        self.assertIs(fractions.is_fraction((True, 1)), False)
+        self.assertIs(fractions.is_fraction((1, True)), False)
+        self.assertIs(fractions.is_fraction((False, 1)), False)
+        self.assertIs(wheels.is_wheel((True, True)), False)
+        self.assertIs(wheels.is_wheel((0, True, 2)), False)
+        self.assertIs(wheels.is_train(((0, True),)), False)
+        self.assertIs(wheels.is_train(((1, 1), (False, True))), False)
+
+    def test_beyond_all_bounds(self):
+        great = 10 ** 400
+        self.assertIs(fractions.is_fraction((great, great + 1)), True)
+        self.assertIs(fractions.is_fraction((-great, great + 1)), True)
+        self.assertIs(fractions.is_fraction((great, 2 * great)), False)
+        self.assertIs(wheels.is_wheel((great, great, great + 3)), True)
+        self.assertIs(wheels.is_wheel((great, great, great + 4)), False)
+        self.assertIs(wheels.is_wheel(tuple(range(5000))), True)
+        self.assertIs(wheels.is_wheel(tuple(range(5000)) + (4998,)), False)
+        self.assertIs(wheels.is_train(((0, 1, 2),) * 3000), True)
+        self.assertIs(wheels.is_train(((0, 1, 2),) * 3000 + ((0, 1),)), False)
+        self.assertIs(fractions.is_fraction((1,) * 5000), False)
+
+
+if __name__ == "__main__":
+    unittest.main()
