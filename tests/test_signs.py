@@ -200,6 +200,11 @@ class NumberPieces(unittest.TestCase):
         self.assertIsNone(number_of("-" + "1" * 13))
         self.assertEqual(number_of("1" + "0" * 11), 10 ** 11)
 
+    def test_somewhat_beyond_the_bounds(self):
+        self.assertEqual(piece_of(10 ** 12), "1" + "0" * 12)
+        self.assertEqual(piece_of(-10 ** 13), "-1" + "0" * 13)
+        self.assertEqual(fraction_piece((10 ** 12, 10 ** 12 + 1)), "1000000000000/1000000000001")
+
     def test_all_short_pieces(self):
         told = {str(number): number for number in range(-999, 10000)}
         for first in "-/a0123":
