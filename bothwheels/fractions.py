@@ -32,28 +32,41 @@ def as_fractions(value):
     return told
 
 
-def fraction(above, below):
-    """The FRACTION above / below; Unfit() if below is 0."""
-    if below == 0:
+def as_turns(value):
+    """The TURNS that value is, as a tuple; Unfit() if it is none."""
+    told = as_fractions(value)
+    if told == ():
         raise Unfit()
+    return told
+
+
+def quotient(above, below):
+    """The FRACTION above / below; below is known not to be 0."""
     common = gcd(above, below)
     if below < 0:
         common = -common
     return (above // common, below // common)
 
 
+def fraction(above, below):
+    """The FRACTION above / below; Unfit() if below is 0."""
+    if below == 0:
+        raise Unfit()
+    return quotient(above, below)
+
+
 def added(one, other):
     """one + other."""
     above, below = as_fraction(one)
     more, parts = as_fraction(other)
-    return fraction(above * parts + more * below, below * parts)
+    return quotient(above * parts + more * below, below * parts)
 
 
 def less(one, other):
     """one - other."""
     above, below = as_fraction(one)
     taken, parts = as_fraction(other)
-    return fraction(above * parts - taken * below, below * parts)
+    return quotient(above * parts - taken * below, below * parts)
 
 
 def negative(one):
@@ -65,7 +78,7 @@ def negative(one):
 def times(one, number):
     """one times number."""
     above, below = as_fraction(one)
-    return fraction(above * number, below)
+    return quotient(above * number, below)
 
 
 def compared(one, other):
@@ -84,6 +97,20 @@ def compared(one, other):
 def less_than(one, other):
     """Whether one is the lesser."""
     return compared(one, other) == -1
+
+
+def greatest_of(fractions):
+    """The greatest of a list, not [], of FRACTIONS."""
+    best = fractions[0]
+    for own in fractions:
+        if less_than(best, own):
+            best = own
+    return best
+
+
+def least_of_all(fractions):
+    """The least of a list, not [], of FRACTIONS."""
+    return negative(greatest_of([negative(own) for own in fractions]))
 
 
 def floor_of(one):

@@ -1,5 +1,7 @@
 """What all modules ask of the values that they are passed."""
 
+from bothwheels.errors import Unfit
+
 
 def is_number(value):
     """Whether value is a number; True and False are none."""
@@ -11,6 +13,20 @@ def are_numbers(values):
     return all([is_number(value) for value in values])
 
 
+def as_number(value):
+    """The number that value is; Unfit() if it is none."""
+    if not is_number(value):
+        raise Unfit()
+    return value
+
+
+def as_number_from(value, lowest):
+    """The number, not below lowest, that value is; Unfit() if it is none."""
+    if not is_number(value) or value < lowest:
+        raise Unfit()
+    return value
+
+
 def with_tuples(value, depth):
     """value with tuples in the place of lists, so many levels deep.
 
@@ -19,3 +35,15 @@ def with_tuples(value, depth):
     if depth == 0 or not isinstance(value, (list, tuple)):
         return value
     return tuple([with_tuples(own, depth - 1) for own in value])
+
+
+def is_just(thing, told):
+    """Whether thing is told, numbers in tuples at any depth.
+
+    Python's own comparison would take True for 1.
+    """
+    if not isinstance(told, tuple):
+        return is_number(thing) and thing == told
+    if not isinstance(thing, tuple) or len(thing) != len(told):
+        return False
+    return all([is_just(own, other) for own, other in zip(thing, told)])

@@ -38,7 +38,7 @@ def as_train(value):
     return told
 
 
-def _led(wheel, number):
+def led_to(wheel, number):
     """Where wheel leads number; wheel is known to be a WHEEL."""
     places = len(wheel)
     return wheel[number % places] + number // places * places
@@ -46,12 +46,12 @@ def _led(wheel, number):
 
 def _led_twice(wheel, first):
     """The WHEEL by which a place is led where wheel leads it behind first."""
-    return tuple([_led(wheel, number) for number in first])
+    return tuple([led_to(wheel, number) for number in first])
 
 
 def leads(wheel, number):
     """Where wheel leads number."""
-    return _led(as_wheel(wheel), number)
+    return led_to(as_wheel(wheel), number)
 
 
 def shift(places, steps):
@@ -104,7 +104,7 @@ def finer(wheel, many):
 def from_elsewhere(wheel, number):
     """wheel, with the places of its ring told from number on."""
     told = as_wheel(wheel)
-    return tuple([_led(told, place + number) - number for place in range(len(told))])
+    return tuple([led_to(told, place + number) - number for place in range(len(told))])
 
 
 def is_at_most(wheel, other):
@@ -119,7 +119,7 @@ def is_at_most(wheel, other):
 def slips_of(wheel):
     """The set of the places at which wheel slips."""
     told = as_wheel(wheel)
-    return tuple([place for place in range(len(told)) if _led(told, place + 1) == told[place]])
+    return tuple([place for place in range(len(told)) if led_to(told, place + 1) == told[place]])
 
 
 def led_places(wheel):

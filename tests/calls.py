@@ -1,9 +1,20 @@
-"""Calls of each function, and wrong values for its arguments, for the rules that hold for all."""
+"""Calls of each function, and its arguments that are checked, for the rules that hold for all."""
 
-from bothwheels import fractions, signs, wheels
+from bothwheels import (
+    backs, fractions, ladders, led, most, seen, sides, signs, turnings, wheels, words,
+)
+from tests.wrong import (
+    NO_FRACTIONS, NO_FRACTIONS_IN_A_ROW, NO_NUMBERS, NO_NUMBERS_FROM_0, NO_NUMBERS_FROM_1, NO_PIECES, NO_PLACES_OF_5,
+    NO_RUNGS, NO_RUNGS_IN_A_ROW, NO_TRAINS, NO_TURNS, NO_WHEELS, NO_WORDS,
+)
 
 WHEEL, OTHER = (1, 1, 3), (0, 2, 3)
 HALF, THIRD = (1, 2), (1, 3)
+FIVE, FAST, SOME = (1, 1, 4, 4, 5), (3, 3, 4, 6, 7), (0, 2, 3)
+TRAIN, WORD = (WHEEL, OTHER), (0, 0, 1)
+RUNG = (3, 1, ((1, 3, 3), (0, 0, 1)))
+LADDER = ((3, 1, ((1, 3, 3), (0, 0, 1))), (2, 1, ((0, 0), (1, 1))), (1, 0, ((0,), (0,))))
+CLIMBED = ((1, 2, 3), (2, 4, 4), (1, 1, 2))
 
 # Each function with some arguments that are as described: (function, names, values).
 CALLS = [
@@ -53,68 +64,100 @@ CALLS = [
     (wheels.slips_of, ("wheel",), (WHEEL,)),
     (wheels.led_places, ("wheel",), (WHEEL,)),
     (wheels.led_from, ("wheel", "number"), (WHEEL, 1)),
+    (turnings.come_back, ("wheel",), (FAST,)),
+    (turnings.is_return, ("wheel", "thing"), (FAST, (1, 2, 1))),
+    (turnings.is_return, ("wheel", "thing"), (FAST, [1, 2, 1])),
+    (turnings.turning, ("wheel",), (FAST,)),
+    (turnings.own_places, ("wheel",), (FAST,)),
+    (turnings.own_step, ("wheel",), (FAST,)),
+    (turnings.orbit, ("wheel", "place"), (FAST, 2)),
+    (turnings.after, ("wheel", "number", "beats"), (FAST, -7, 0)),
+    (turnings.after, ("wheel", "number", "beats"), (FAST, -7, 10 ** 30)),
+    (turnings.beats_to_own, ("wheel", "place"), (FAST, 0)),
+    (turnings.come_together, ("wheel", "one", "other"), (FAST, 1, 3)),
+    (turnings.come_together, ("wheel", "one", "other"), (FAST, 0, 1)),
+    (sides.gains, ("wheel", "beats"), (FAST, 3)),
+    (sides.can_gain, ("wheel", "rounds", "beats"), (FAST, 1, 2)),
+    (sides.can_lag, ("wheel", "rounds", "beats"), (FAST, 1, 2)),
+    (sides.gainer, ("wheel", "rounds", "beats"), (FAST, 1, 2)),
+    (sides.lagger, ("wheel", "rounds", "beats"), (FAST, 1, 2)),
+    (sides.is_gainer, ("wheel", "rounds", "beats", "thing"), (FAST, 1, 2, 1)),
+    (sides.is_lagger, ("wheel", "rounds", "beats", "thing"), (FAST, 1, 2, 1)),
+    (sides.all_short, ("wheel", "rounds", "beats"), (FAST, 2, 3)),
+    (sides.all_beyond, ("wheel", "rounds", "beats"), (FAST, 1, 3)),
+    (sides.by_gains, ("wheel",), (FAST,)),
+    (sides.by_lags, ("wheel",), (FAST,)),
+    (sides.by_walk, ("wheel", "place", "beats"), (FAST, 2, 7)),
+    (sides.side_of, ("wheel", "fraction"), (FAST, THIRD)),
+    (backs.first_back, ("wheel",), (FIVE,)),
+    (backs.last_back, ("wheel",), (FIVE,)),
+    (backs.mirrored, ("wheel",), (FIVE,)),
+    (backs.back_train, ("train",), (TRAIN,)),
+    (backs.mirrored_train, ("train",), (TRAIN,)),
+    (backs.is_back_pair, ("wheel", "other"), ((1, 1, 4, 4), (-2, 0, 2, 2))),
+    (led.greatest_led, ("places", "number", "ring"), (SOME, 1, 5)),
+    (led.least_led, ("places", "number", "ring"), (SOME, 1, 5)),
+    (led.is_led_by, ("wheel", "places", "number"), ((2, 2, 3, 5, 5), SOME, 1)),
+    (led.led_by, ("wheel", "places"), ((2, 2, 3, 5, 5), SOME)),
+    (led.told_on, ("places", "ring", "number"), (SOME, 5, -4)),
+    (led.last_at, ("places", "ring", "number"), (SOME, 5, -4)),
+    (led.first_at_least, ("places", "ring", "number"), (SOME, 5, -4)),
+    (led.many_led, ("places", "number", "ring"), (SOME, 1, 5)),
+    (led.wheel_between, ("places", "number", "ring", "share"), (SOME, 1, 5, 3)),
+    (seen.seen, ("wheel", "places"), (FIVE, SOME)),
+    (seen.strictly_seen, ("wheel", "places"), (FIVE, SOME)),
+    (seen.seen_over, ("wheel", "places"), (FIVE, SOME)),
+    (seen.all_seen, ("train", "places"), ((FIVE, FAST), SOME)),
+    (seen.all_strictly_seen, ("train", "places"), ((FIVE, FAST), SOME)),
+    (seen.left_behind, ("wheel", "places"), (FIVE, SOME)),
+    (seen.are_kept, ("wheel", "places"), (FAST, (1, 3))),
+    (seen.kept_within, ("wheel", "places"), (FAST, (0, 1, 3))),
+    (seen.kept_within, ("wheel", "places"), (FAST, (0, 4))),
+    (seen.places_within, ("places", "ring", "numbers"), (SOME, 5, (0, 2))),
+    (seen.keeps_turning, ("wheel", "places"), (FAST, (2, 4))),
+    (seen.least_keeping, ("wheel",), (FAST,)),
+    (words.is_word, ("thing",), (WORD,)),
+    (words.letters_of, ("word",), (WORD,)),
+    (words.counts_of, ("word",), (WORD,)),
+    (words.word_wheel, ("train", "word"), (TRAIN, WORD)),
+    (words.word_turning, ("train", "word"), (TRAIN, WORD)),
+    (words.stops, ("train", "word", "number"), (TRAIN, WORD, -4)),
+    (words.turned_word, ("word", "number"), (WORD, -1)),
+    (words.turned_word, ("word", "number"), (WORD, 0)),
+    (words.least_turned, ("word",), ((1, 0, 0),)),
+    (words.are_turned, ("word", "other"), (WORD, (0, 1, 0))),
+    (words.root_of, ("word",), ((0, 1, 0, 1),)),
+    (words.repeated_word, ("word", "many"), (WORD, 2)),
+    (words.repeated_word, ("word", "many"), (WORD, 1)),
+    (words.with_wheel, ("train", "letter", "wheel"), (TRAIN, 1, (1, 2, 3))),
+    (words.added_turns, ("train", "word"), (TRAIN, WORD)),
+    (words.beyond, ("train", "word"), (TRAIN, WORD)),
+    (most.value_at, ("turns", "number"), ((HALF, THIRD), 5)),
+    (most.most, ("turns",), ((HALF, THIRD),)),
+    (most.least, ("turns",), ((HALF, THIRD),)),
+    (most.bottoms, ("turns",), ((HALF, THIRD),)),
+    (most.is_between, ("turns", "fraction"), ((HALF, THIRD), (5, 6))),
+    (most.slack, ("turns",), ((HALF, THIRD),)),
+    (ladders.is_rung, ("thing",), (RUNG,)),
+    (ladders.first_rung, ("train",), (CLIMBED,)),
+    (ladders.next_rung, ("rung",), (RUNG,)),
+    (ladders.ladder, ("train",), (CLIMBED,)),
+    (ladders.is_ladder, ("train", "thing"), (CLIMBED, LADDER)),
+    (ladders.is_ladder, ("train", "thing"), (CLIMBED, list(LADDER))),
+    (ladders.rung_word, ("rung",), (RUNG,)),
+    (ladders.rung_turning, ("rung",), (RUNG,)),
+    (ladders.rung_turning, ("rung",), ((3, 1, ()),)),
+    (ladders.end_of, ("ladder",), (LADDER,)),
+    (ladders.ring_of, ("ladder",), (LADDER,)),
+    (ladders.bound_of, ("train",), (CLIMBED,)),
+    (ladders.broken_at, ("train", "ladder"), (CLIMBED, LADDER)),
+    (ladders.broken_at, ("train", "ladder"), (CLIMBED, LADDER[:2])),
+    (ladders.broken_at, ("train", "ladder"), (CLIMBED, ())),
 ]
 
 
-class Strange:
-    """An object that is equal to whatever it is asked about."""
-
-    def __eq__(self, other):
-        return True
-
-    def __len__(self):
-        return 2
-
-    def __getitem__(self, at):
-        return 1
-
-    def __iter__(self):
-        return iter((1, 2))
-
-
-ROUND = [1, 2]
-ROUND.append(ROUND)
-
-# What is no number, no tuple and no list, whatever is asked for; and what holds itself.
-NOTHINGS = [
-    None, True, False, 0, 1, -5, 1.5, float("nan"), "", "a", "12", "(1, 2)", b"ab", {}, {0: 1, 1: 2}, {1, 2},
-    range(1, 3), Strange(), object(), int, len, ROUND, (x for x in (1, 2)),
-]
-
-NO_FRACTIONS = NOTHINGS + [
-    (), [], (1,), (1, 2, 3), (2, 4), [2, 4], (1, 0), (0, 2), (0, 0), (1, -2), (-1, -1), (3, -1), (6, 3),
-    (1, True), (True, 2), (False, 1), (1, None), (None, 1), ("1", 2), (1, "2"), (1.0, 2), (1, 2.0),
-    ((1, 2),), ((1, 2), 1), ((1,), (2,)), ([1], [2]), (1, (2,)),
-]
-
-NO_WHEELS = NOTHINGS + [
-    (), [], (3, 2), [3, 2], (0, 0, 4), (0, 3), (1, 0), (-2, -3), (0, 2, 1), (-5, -2), (0, 5, 2),
-    (True,), (0, True), (False, 1), (None,), (1, None, 2), ("1",), ("1", "2"), (1.0,), (0, 1.5),
-    ((1,),), ([1],), ((1, 1, 3),), ((1, 1, 3), (0, 2, 3)), (1, (2,), 3), (0, 1, [2]),
-]
-
-NO_TRAINS = NOTHINGS + [
-    (), [], ((),), [[]], (1, 1, 3), [1, 1, 3], ((1, 1, 3), (1, 1)), ((1, 1), (1, 1, 3)), ((1, 1), (1, 0)), ((1, 0),),
-    ((1, 1), ()), ((1, 1), None), ((1, 1), True), (None,), ("ab",), ((1, 1), "ab"), ((True, 1),), ((1, 1), (0, True)),
-    (((1, 1),),), [[[1, 1]]], ((1, 1), 1), ((0, 1, 2), (0, 1, 4)),
-]
-
-# A tuple of FRACTIONS may be ().
-NO_FRACTIONS_IN_A_ROW = NOTHINGS + [
-    (1, 2), [1, 2], ((),), ((1, 2), (2, 4)), ((2, 4), (1, 2)), ((1, 2), None), ((1, 2), True), (True,), ("ab",),
-    ((1, True),), (((1, 2),),), ((1, 0),), ((1, 2), (1, -2)), ((1, 2, 3),),
-]
-
-NO_PIECES = NOTHINGS + [
-    ("a", 0), ["a", 0], [()], [("a",)], [("a", 0, 0)], [("a", -1)], [("a", 1), ("b", 0)], [("a", 3), ("b", 3), ("c", 2)],
-    [("", 0)], [("a b", 0)], [("A", 0)], [("a#", 0)], [("#", 0)], [("a\n", 0)], [(" a", 0)], [("a.b", 0)], [("_", 0)],
-    [("a", True)], [("a", False)], [("a", None)], [("a", "0")], [("a", 0.0)], [(0, "a")], [(None, 0)], [(1, 0)],
-    [("a", 0), None], [("a", 0), "b0"], [("a", 0), True], ["a0"], [(b"a", 0)], [(("a",), 0)], [("a", (0,))],
-    [("a", 0), ("b", 1), ("B", 1)], [("\xe9", 0)], [("\u0663", 0)], [("a", 0), ("b", 5), ("c", 4)],
-]
-
-# For each argument that the document tells by a name in capitals: a call that is fine
-# but for it, the number of the argument, and values that it must not be.
+# For each argument for which the document states Unfit(): a call that is fine but for
+# it, the number of the argument, and values that it must not be.
 UNFIT = [
     (signs.text_of, ([("a", 0)],), 0, NO_PIECES),
     (signs.fraction_piece, (HALF,), 0, NO_FRACTIONS),
@@ -154,6 +197,54 @@ UNFIT = [
     (wheels.led_from, (WHEEL, 1), 0, NO_WHEELS),
 ]
 
+# The kinds of arguments of the later files, whatever function they belong to; but for
+# those told in the next table.
+KINDS = {
+    "wheel": NO_WHEELS,
+    "train": NO_TRAINS,
+    "other": NO_WHEELS,
+    "place": NO_NUMBERS,
+    "number": NO_NUMBERS,
+    "one": NO_NUMBERS,
+    "rounds": NO_NUMBERS,
+    "fraction": NO_FRACTIONS,
+    "places": NO_PLACES_OF_5,
+    "numbers": NO_PLACES_OF_5,
+    "ring": NO_NUMBERS_FROM_1,
+    "share": NO_NUMBERS_FROM_0,
+    "word": NO_WORDS,
+    "many": NO_NUMBERS_FROM_1,
+    "letter": NO_NUMBERS_FROM_0,
+    "turns": NO_TURNS,
+    "rung": NO_RUNGS,
+    "ladder": NO_RUNGS_IN_A_ROW,
+    "beats": NO_NUMBERS_FROM_1,
+}
+KINDS_APART = {
+    (turnings.after, "beats"): NO_NUMBERS_FROM_0,
+    (turnings.come_together, "other"): NO_NUMBERS,
+    (words.are_turned, "other"): NO_WORDS,
+    (most.value_at, "number"): NO_NUMBERS_FROM_1,
+    (ladders.end_of, "ladder"): NO_RUNGS_IN_A_ROW + [(), []],
+    (ladders.ring_of, "ladder"): NO_RUNGS_IN_A_ROW + [(), []],
+}
+LATER = ("turnings", "sides", "backs", "led", "seen", "words", "most", "ladders")
+
+
+def unfit_of_later_files():
+    """As UNFIT, of all CALLS of the later files."""
+    found = []
+    for function, names, values in CALLS:
+        if function.__module__.split(".")[1] not in LATER:
+            continue
+        for at, name in enumerate(names):
+            if name != "thing":
+                found.append((function, values, at, KINDS_APART.get((function, name), KINDS[name])))
+    return found
+
+
+UNFIT += unfit_of_later_files()
+
 # Likewise, but each call is refused by another error, or by [], if Unfit() is not ahead of it.
 UNFIT_AHEAD = [
     (fractions.between, ((0, 1), (5000, 1), 60), 0, NO_FRACTIONS),
@@ -161,4 +252,35 @@ UNFIT_AHEAD = [
     (fractions.between, (HALF, THIRD, 60), 0, NO_FRACTIONS),
     (fractions.between, (HALF, THIRD, 60), 1, NO_FRACTIONS),
     (wheels.steps_of, (WHEEL,), 0, NO_WHEELS),
+    (turnings.orbit, (FAST, 5), 0, NO_WHEELS),
+    (turnings.beats_to_own, (FAST, -1), 0, NO_WHEELS),
+    (sides.gainer, (FAST, 9, 2), 0, NO_WHEELS),
+    (sides.gainer, (FAST, 9, 2), 2, NO_NUMBERS_FROM_1),
+    (sides.lagger, (FAST, -9, 2), 0, NO_WHEELS),
+    (sides.lagger, (FAST, -9, 2), 2, NO_NUMBERS_FROM_1),
+    (sides.by_walk, (FAST, 5, 7), 0, NO_WHEELS),
+    (sides.by_walk, (FAST, 5, 7), 2, NO_NUMBERS_FROM_1),
+    (sides.by_walk, (FAST, -1, 7), 2, NO_NUMBERS_FROM_1),
+    (sides.is_gainer, (FAST, 9, 2, None), 0, NO_WHEELS),
+    (sides.is_gainer, (FAST, 9, 2, None), 1, NO_NUMBERS),
+    (sides.is_gainer, (FAST, 9, 2, None), 2, NO_NUMBERS_FROM_1),
+    (sides.is_lagger, (FAST, 9, 2, ()), 0, NO_WHEELS),
+    (sides.is_lagger, (FAST, 9, 2, ()), 1, NO_NUMBERS),
+    (sides.is_lagger, (FAST, 9, 2, ()), 2, NO_NUMBERS_FROM_1),
+    (turnings.is_return, (FAST, None), 0, NO_WHEELS),
+    (backs.is_back_pair, (FAST, (0,)), 0, NO_WHEELS),
+    (backs.is_back_pair, ((0,), FAST), 0, NO_WHEELS),
+    (backs.is_back_pair, ((0,), FAST), 1, NO_WHEELS),
+    (led.led_by, ((2, 2, 3, 4, 5), SOME), 0, NO_WHEELS),
+    (led.led_by, ((2, 2, 3, 4, 5), SOME), 1, NO_PLACES_OF_5),
+    (led.wheel_between, ((0, 12), 1, 24, 0), 1, NO_NUMBERS),
+    (led.wheel_between, ((0, 12), 1, 24, 0), 2, NO_NUMBERS_FROM_1),
+    (led.wheel_between, ((0, 12), 1, 24, 0), 3, NO_NUMBERS_FROM_0),
+    (words.with_wheel, (TRAIN, 2, (1, 2, 3)), 0, NO_TRAINS),
+    (words.with_wheel, (TRAIN, 2, (1, 2, 3)), 2, NO_WHEELS),
+    (most.most, (((1, 41), (1, 53)),), 0, NO_TURNS),
+    (most.is_between, (((1, 41), (1, 53)), HALF), 1, NO_FRACTIONS),
+    (ladders.next_rung, ((1, 0, ((0,),)),), 0, NO_RUNGS),
+    (ladders.is_ladder, (CLIMBED, None), 0, NO_TRAINS),
+    (ladders.broken_at, (CLIMBED, ()), 0, NO_TRAINS),
 ]

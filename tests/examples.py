@@ -5,7 +5,9 @@ import importlib
 
 from bothwheels import errors
 
-MODULES = ("signs", "fractions", "wheels")
+MODULES = (
+    "signs", "fractions", "wheels", "turnings", "sides", "backs", "led", "seen", "words", "ladders", "most",
+)
 
 
 def names_of_package():

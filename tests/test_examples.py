@@ -1,4 +1,4 @@
-"""The examples of the document, sections 3 to 5, as they stand there; those of README.md."""
+"""The examples of the document, sections 3 to 13, as they stand there; those of README.md."""
 
 import doctest
 import os
@@ -65,18 +65,191 @@ SECTION_5 = r"""
     raises Unfit()
 """
 
+SECTION_6 = r"""
+    >>> slips, steady, back = (1, 1, 4, 5, 5), (2, 3, 4, 5, 6), (-4, -4, -4)
+    >>> come_back(slips), turning(slips), own_places(slips), own_step(slips), orbit(slips, 0), orbit(slips, 3)
+    ((1, 1, 0), (0, 1), (1,), 0, (0, 1), (3, 0, 1))
+    >>> come_back(steady), own_places(steady), own_step(steady), orbit(steady, 1)
+    ((0, 5, 2), (0, 1, 2, 3, 4), 2, (1, 3, 0, 2, 4))
+    >>> come_back(back), turning(back), own_places(back), orbit(back, 0), after(back, 0, 3)
+    ((2, 1, -2), (-2, 1), (2,), (0, 2), -16)
+    >>> two = (1, 1, 3, 4, 4)
+    >>> come_back(two), own_places(two), after(two, 12, 10 ** 30), after(two, -3, 2), after(two, 7, 0)
+    ((1, 1, 0), (1, 4), 14, -1, 7)
+    >>> third = (2, 2, 4, 5, 6, 6)
+    >>> come_back(third), own_places(third), own_step(third), [beats_to_own(third, own) for own in range(6)], after(third, 1, 7)
+    ((0, 3, 1), (0, 2, 4), 1, [0, 1, 0, 2, 0, 1], 14)
+    >>> come_together(third, 0, 1), come_together(third, 1, 5), come_together(third, 0, 2), come_together(third, 3, 3), come_together(slips, 1, 6)
+    (1, None, None, 0, None)
+    >>> is_return(steady, (0, 5, 2)), is_return(steady, (1, 5, 2)), is_return(steady, [0, 5, 2])
+    (True, False, False)
+    >>> orbit(steady, 5)
+    raises NoPlace(place=5)
+    >>> turning((1, 0))
+    raises Unfit()
+"""
+
+SECTION_7 = r"""
+    >>> slips, third, back = (1, 1, 4, 5, 5), (2, 2, 4, 5, 6, 6), (-4, -4, -4)
+    >>> gains(slips, 1), gains(slips, 2), gains(third, 3), gains(third, 10 ** 30)[1], gains(back, 2)
+    ((1, 0, 2, 2, 1), (1, 0, 3, 3, 2), (6, 5, 6, 5, 6, 5), 1999999999999999999999999999999, (-10, -11, -12))
+    >>> can_gain(third, 1, 3), can_lag(third, 1, 3), gainer(third, 1, 3), lagger(third, 1, 3), can_gain(third, 2, 5), can_lag(third, 2, 5)
+    (True, True, 0, 0, False, True)
+    >>> is_gainer(third, 1, 3, 2), is_gainer(third, 1, 3, 1), is_lagger(third, 1, 3, 1), is_lagger(third, 1, 3, True), is_gainer(third, 1, 3, 6)
+    (True, False, True, False, False)
+    >>> all_short(third, 2, 5), all_short(third, 1, 3), all_beyond(third, 1, 4), all_beyond(third, 1, 3)
+    (True, False, True, False)
+    >>> [by_gains(own) for own in (slips, third, back)], [by_lags(own) for own in (slips, third, back)]
+    ([(0, 1), (1, 3), (-2, 1)], [(0, 1), (1, 3), (-2, 1)])
+    >>> by_walk(third, 1, 1), by_walk(third, 1, 36), by_walk(third, 0, 36), by_walk(slips, 2, 2), by_walk(back, 0, 4)
+    (((0, 1), (1, 1)), ((11, 36), (1, 3)), ((1, 3), (1, 3)), ((0, 1), (1, 2)), ((-2, 1), (-7, 4)))
+    >>> side_of(third, (1, 3)), side_of(third, (1, 4)), side_of(third, (2, 5)), side_of(back, (-2, 1)), side_of(back, (-9, 4))
+    (0, 1, -1, 0, 1)
+    >>> gainer(third, 2, 5)
+    raises CanNot()
+    >>> by_walk(third, 6, 1)
+    raises NoPlace(place=6)
+    >>> side_of(third, (2, 6))
+    raises Unfit()
+"""
+
+SECTION_8 = r"""
+    >>> wheel, flat = (1, 1, 4, 4), (0, 2, 2, 3)
+    >>> first_back(wheel), last_back(wheel), mirrored(wheel)
+    ((-2, 0, 2, 2), (-1, 1, 1, 1), (-1, 0, 0, 3))
+    >>> last_back(first_back(wheel)) == wheel, first_back(first_back(wheel)), first_back((2, 3, 4)), mirrored((2, 3, 4))
+    (True, (1, 2, 2, 5), (-2, -1, 0), (-2, -1, 0))
+    >>> put_together((wheel, flat)), back_train((wheel, flat)), put_together(back_train((wheel, flat)))
+    ((1, 4, 4, 4), ((0, 1, 1, 3), (-2, 0, 2, 2)), (-3, 0, 1, 1))
+    >>> mirrored_train((wheel, flat)), put_together(mirrored_train((wheel, flat)))
+    (((-1, 0, 0, 3), (0, 1, 2, 2)), (-1, 0, 0, 0))
+    >>> is_back_pair(wheel, (-2, 0, 2, 2)), is_back_pair(wheel, (-1, 1, 1, 1)), is_back_pair(wheel, (0,))
+    (True, False, False)
+    >>> turning((1, 2, 4)), turning(first_back((1, 2, 4))), turning(mirrored((1, 2, 4)))
+    ((1, 2), (-1, 2), (-1, 2))
+    >>> first_back((1, 0))
+    raises Unfit()
+"""
+
+SECTION_9 = r"""
+    >>> few = (0, 2, 3)
+    >>> [told_on(few, 5, own) for own in (-1, 0, 1, 3, 4)], [last_at(few, 5, own) for own in (-1, 1, 4, 5)], [first_at_least(few, 5, own) for own in (-1, 1, 4, 5)]
+    ([-2, 0, 2, 5, 7], [-1, 0, 2, 3], [0, 1, 3, 3])
+    >>> greatest_led(few, 1, 5), least_led(few, 1, 5), many_led(few, 1, 5), turning(greatest_led(few, 1, 5))
+    ((2, 3, 3, 5, 7), (2, 2, 3, 5, 5), 6, (1, 3))
+    >>> is_led_by((2, 2, 3, 5, 5), few, 1), led_by((2, 3, 3, 5, 5), few), is_led_by((2, 2, 3, 4, 5), few, 1)
+    (True, 1, False)
+    >>> greatest_led((1,), 0, 4), least_led((1,), 0, 4), many_led((1,), 0, 4), greatest_led((0, 2), 3, 4), least_led((0, 2), 3, 4)
+    ((1, 1, 5, 5), (-3, 1, 1, 1), 35, (6, 8, 8, 10), (6, 6, 8, 8))
+    >>> [wheel_between(few, 1, 5, own) for own in (0, 1, 3, 5)]
+    [(2, 2, 3, 5, 5), (2, 2, 3, 5, 6), (2, 3, 3, 5, 5), (2, 3, 3, 5, 7)]
+    >>> greatest_led((0, 1, 2), 7, 3), many_led((0, 1, 2), 7, 3), many_led((0, 12), 1, 24)
+    ((7, 8, 9), 1, 1828114918084)
+    >>> first_back(least_led((0, 2), 3, 4)) == greatest_led((0, 2), -3, 4)
+    True
+    >>> led_by((2, 2, 3, 4, 5), few)
+    raises CanNot()
+    >>> greatest_led((0, 5), 1, 5)
+    raises Unfit()
+    >>> wheel_between((0, 12), 1, 24, 0)
+    raises TooMany()
+"""
+
+SECTION_10 = r"""
+    >>> wheel, some = (1, 1, 4, 4, 5), (0, 2, 3)
+    >>> seen(wheel, some), strictly_seen(wheel, some), seen_over(wheel, some), left_behind(wheel, some)
+    ((0, 2, 2), (0, 2, 2), (1, 3, 3), (1, 1, 1))
+    >>> seen(wheel, (1, 4)), strictly_seen(wheel, (1, 4)), seen_over(wheel, (1, 4)), seen(wheel, (0, 1, 2, 3, 4)) == wheel, seen(wheel, (2,)), seen_over(wheel, (2,))
+    ((0, 1), (-1, 1), (0, 2), True, (0,), (1,))
+    >>> fast = (3, 3, 4, 6, 7)
+    >>> least_keeping(fast), least_keeping(wheel), least_keeping((1, 2, 3)), seen(fast, (1, 2, 3)), seen(fast, (0,))
+    ((1, 3), (1,), (0, 1, 2), (2, 2, 3), (0,))
+    >>> are_kept(fast, (1, 3)), are_kept(fast, (1, 2, 3)), kept_within(fast, (0, 1, 3)), kept_within(fast, (0, 4)), keeps_turning(fast, (1, 3)), keeps_turning(fast, (2, 4)), keeps_turning(fast, (0,))
+    (True, False, (0, 1, 3), (), True, True, False)
+    >>> places_within(some, 5, (0, 2)), seen(seen(wheel, some), (0, 2)) == seen(wheel, (0, 3)), all_seen((wheel, fast), some), all_strictly_seen((wheel, fast), some)
+    ((0, 3), True, ((0, 2, 2), (2, 2, 3)), ((0, 2, 2), (1, 2, 3)))
+    >>> seen(wheel, ())
+    raises Unfit()
+    >>> seen(wheel, (0, 5))
+    raises Unfit()
+"""
+
+SECTION_11 = r"""
+    >>> train, word = ((1, 1, 3), (0, 2, 3)), (0, 0, 1)
+    >>> is_word(word), is_word((0, 2)), is_word(()), is_word([0]), letters_of(word), counts_of(word)
+    (True, False, False, False, 2, (2, 1))
+    >>> word_wheel(train, word), stops(train, word, 2), word_turning(train, word)
+    ((1, 4, 4), (2, 3, 4, 4), (1, 1))
+    >>> [word_wheel(train, turned_word(word, own)) for own in (1, 2)], turned_word(word, -1), least_turned((1, 0, 0))
+    ([(3, 3, 4), (2, 2, 5)], (1, 0, 0), (0, 0, 1))
+    >>> [turning(own) for own in train], added_turns(train, word), beyond(train, word)
+    ([(0, 1), (0, 1)], (0, 1), (1, 1))
+    >>> are_turned(word, (0, 1, 0)), are_turned(word, (0, 1)), root_of((0, 1, 0, 1)), root_of(word), repeated_word((0, 1), 2)
+    (True, False, ((0, 1), 2), ((0, 0, 1), 1), (0, 1, 0, 1))
+    >>> with_wheel(train, 1, (1, 2, 3)), word_turning(with_wheel(train, 1, (1, 2, 3)), word)
+    (((1, 1, 3), (1, 2, 3)), (1, 1))
+    >>> word_wheel(train, (0,))
+    raises Unfit()
+    >>> with_wheel(train, 2, (1, 2, 3))
+    raises NoLetter(letter=2)
+"""
+
+SECTION_12 = r"""
+    >>> train = ((1, 2, 3), (2, 4, 4), (1, 1, 2))
+    >>> first_rung(train), next_rung(first_rung(train))
+    ((3, 1, ((1, 3, 3), (0, 0, 1))), (2, 1, ((0, 0), (1, 1))))
+    >>> ladder(train)[2:], [rung_turning(own) for own in ladder(train)], rung_word((3, 1, ((1, 3, 3), (0, 0, 1))))
+    (((1, 0, ((0,), (0,))),), [(1, 1), (2, 1), (2, 1)], (5, 5, 5))
+    >>> end_of(ladder(train)), ring_of(ladder(train)), bound_of(train), turning(put_together(train))
+    ((2, 1), 1, ((2, 1), (3, 1)), (1, 1))
+    >>> slow, fast = (0, 0, 0, 4), (1, 3, 3, 5)
+    >>> ladder((slow, fast)), ladder((fast, slow)), bound_of((fast, slow))
+    (((1, 0, ((0,),)),), ((2, 1, ((-1, 1),)), (1, 0, ((0,),))), ((1, 1), (1, 1)))
+    >>> ladder((fast,)), end_of(ladder((fast,))), is_ladder((slow, fast), ((1, 0, ((0,),)),)), is_ladder((slow, fast), ((1, 0, ((1,),)),))
+    (((2, 1, ()),), (1, 2), True, False)
+    >>> broken_at(train, ladder(train)[:2]), broken_at(train, ladder(train) * 2), broken_at(train, ladder(train)), broken_at((slow, fast), ((1, 1, ((0,),)),))
+    (2, 3, None, 0)
+    >>> next_rung((1, 0, ((0,),)))
+    raises CanNot()
+    >>> end_of(ladder(train)[:1])
+    raises Unfit()
+"""
+
+SECTION_13 = r"""
+    >>> most(((1, 2), (1, 3))), bottoms(((1, 2), (1, 3))), least(((1, 2), (1, 3))), value_at(((1, 2), (1, 3)), 5)
+    ((1, 1), (1, 2, 3, 4, 6), (1, 2), (4, 5))
+    >>> most(((4, 7), (5, 9))), bottoms(((4, 7), (5, 9))), least(((4, 7), (5, 9))), slack(((4, 7), (5, 9)))
+    ((3, 2), (2,), (1, 1), (47, 126))
+    >>> most(((0, 1), (0, 1))), least(((0, 1), (0, 1))), most(((2, 3), (2, 3), (2, 3))), bottoms(((2, 3), (2, 3), (2, 3))), most(((3, 4),)), bottoms(((3, 4),))
+    ((1, 1), (-1, 1), (8, 3), (3,), (3, 4), (4,))
+    >>> most(((-1, 2), (1, 3))), least(((-1, 2), (1, 3))), is_between(((-1, 2), (1, 3)), (-1, 2)), is_between(((1, 2), (1, 3)), (7, 6)), slack(((1, 3),))
+    ((0, 1), (-1, 2), True, False, (0, 1))
+    >>> value_at(((1, 41), (1, 53)), 10 ** 6)
+    (21629, 500000)
+    >>> most(((1, 41), (1, 53)))
+    raises TooMany()
+    >>> most(())
+    raises Unfit()
+"""
+
+
+SECTIONS = (
+    SECTION_3, SECTION_4, SECTION_5, SECTION_6, SECTION_7, SECTION_8, SECTION_9, SECTION_10, SECTION_11, SECTION_12,
+    SECTION_13,
+)
+
 
 class Examples(unittest.TestCase):
     """Names set in one section stand in the later ones, too."""
 
     def test_all_sections(self):
         names = names_of_package()
-        for section in (SECTION_3, SECTION_4, SECTION_5):
+        for section in SECTIONS:
             run_examples(self, section, names)
 
     def test_each_section_has_its_examples(self):
-        many = [len(parted(section)) for section in (SECTION_3, SECTION_4, SECTION_5)]
-        self.assertEqual(many, [6, 10, 9])
+        many = [len(parted(section)) for section in SECTIONS]
+        self.assertEqual(many, [6, 10, 9, 12, 11, 8, 11, 9, 9, 10, 7])
 
     def test_readme(self):
         top = os.path.dirname(os.path.dirname(os.path.abspath(__file__)))

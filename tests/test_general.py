@@ -3,11 +3,12 @@
 import copy
 import unittest
 
-from bothwheels import fractions, wheels
+from bothwheels import fractions, ladders, sides, turnings, wheels, words
 from bothwheels.errors import Unfit
 from tests import test_interface
-from tests.calls import CALLS, NO_FRACTIONS, NO_TRAINS, NO_WHEELS, UNFIT, UNFIT_AHEAD
+from tests.calls import CALLS, CLIMBED, FAST, LADDER, RUNG, UNFIT, UNFIT_AHEAD
 from tests.examples import same
+from tests.wrong import NO_FRACTIONS, NO_NUMBERS, NO_RUNGS, NO_RUNGS_IN_A_ROW, NO_TRAINS, NO_WHEELS, NO_WORDS
 
 
 def with_lists(value, depth):
@@ -26,16 +27,19 @@ def with_tuples(value):
     return tuple([with_tuples(own) for own in value])
 
 
+def is_deep(value, levels=12):
+    """Whether value is nested more levels deep, or holds itself."""
+    if not isinstance(value, (list, tuple)):
+        return False
+    return levels == 0 or any([is_deep(own, levels - 1) for own in value])
+
+
 def forms(value):
     """value with lists for tuples at one depth, at every depth, and with tuples for lists."""
     return [with_lists(value, 0), with_lists(value, 1), with_lists(value, None), with_tuples(value)]
 
 
 class Calls(unittest.TestCase):
-    def each(self):
-        """CALLS, but for those functions for which a list is no tuple."""
-        return [call for call in CALLS if call[1] != ("thing",)]
-
     def test_each_function_is_called(self):
         called = {(function.__module__, function.__name__) for function, names, values in CALLS}
         for module, functions in test_interface.FUNCTIONS.items():
@@ -55,15 +59,18 @@ class Calls(unittest.TestCase):
                 self.assertTrue(same(function(*values), function(*values)))
 
     def test_lists_for_tuples_and_tuples_for_lists(self):
-        for function, names, values in self.each():
+        for function, names, values in CALLS:
             told = function(*values)
-            for place, value in enumerate(values):
-                for form in forms(value):
+            # For a parameter called thing a list is no tuple.
+            tuples = [place for place, name in enumerate(names) if name != "thing"]
+            for place in tuples:
+                for form in forms(values[place]):
                     given = values[:place] + (form,) + values[place + 1:]
                     with self.subTest(function=function.__name__, given=given):
                         self.assertTrue(same(function(*given), told))
             with self.subTest(function=function.__name__, values=values):
-                self.assertTrue(same(function(*[with_lists(value, None) for value in values]), told))
+                given = [with_lists(value, None) if place in tuples else value for place, value in enumerate(values)]
+                self.assertTrue(same(function(*given), told))
 
     def test_arguments_stay_unchanged(self):
         for function, names, values in CALLS:
@@ -76,7 +83,7 @@ class Calls(unittest.TestCase):
     def test_arguments_of_refused_calls_stay_unchanged(self):
         for function, values, place, wrong in UNFIT:
             for bad in wrong:
-                if not isinstance(bad, (list, tuple)) or any(own is bad for own in bad):
+                if not isinstance(bad, (list, tuple)) or is_deep(bad):
                     continue
                 given = [with_lists(value, None) for value in values]
                 given[place] = with_lists(bad, None)
@@ -100,12 +107,12 @@ class Calls(unittest.TestCase):
         self.assertGreater(lists, 1)
 
     def test_what_is_returned_holds_no_list(self):
-        for function, names, values in self.each():
+        for function, names, values in CALLS:
             told = function(*[with_lists(value, None) for value in values])
-            inner = told if isinstance(told, (list, tuple)) else ()
             with self.subTest(function=function.__name__, values=values):
                 self.assertEqual(isinstance(told, list), function.__name__ in ("pieces", "between"))
-                self.assertFalse([own for own in inner if isinstance(own, list)])
+                outer = tuple(told) if isinstance(told, list) else told
+                self.assertTrue(same(with_tuples(outer), outer))
 
     def test_what_is_returned_may_be_passed_in_again(self):
         for function, names, values in CALLS:
@@ -125,9 +132,10 @@ class WrongValues(unittest.TestCase):
     def test_each_such_argument_is_tried(self):
         tried = {(function, place) for function, values, place, wrong in UNFIT}
         capitals = ("one", "other", "fraction", "fractions", "wheel", "train", "pieces")
+        early = ("bothwheels.signs", "bothwheels.fractions", "bothwheels.wheels")
         for function, names, values in CALLS:
             for place, name in enumerate(names):
-                if name in capitals:
+                if name in capitals or function.__module__ not in early and name != "thing":
                     self.assertIn((function, place), tried)
 
     def test_unfit(self):
@@ -142,7 +150,7 @@ class WrongValues(unittest.TestCase):
     def test_unfit_as_lists(self):
         for function, values, place, wrong in UNFIT:
             for bad in wrong:
-                if isinstance(bad, tuple):
+                if isinstance(bad, tuple) and not is_deep(bad):
                     given = values[:place] + (with_lists(bad, None),) + values[place + 1:]
                     with self.subTest(function=function.__name__, place=place, bad=bad):
                         with self.assertRaises(Unfit):
@@ -169,6 +177,24 @@ class Things(unittest.TestCase):
         (fractions.is_fraction, ((1, 2), (0, 1), (-3, 2), (7, 1)), NO_FRACTIONS),
         (wheels.is_wheel, ((1, 1, 3), (5,), (-2, 0, 1), (0, 0, 0), (0, 0, 3)), NO_WHEELS),
         (wheels.is_train, (((1, 1, 3), (0, 2, 3)), ((5,),), ((0, 0), (0, 2))), NO_TRAINS),
+        (words.is_word, ((0,), (0, 0), (1, 0), (2, 0, 1, 0), (0,) * 30, tuple(range(40))), NO_WORDS),
+        (ladders.is_rung, (RUNG, (3, 1, ()), (1, -9, ((0,), (5,))), (7, 10 ** 9, ())), NO_RUNGS),
+    )
+
+    # Of these there is just one, or a few, for what stands ahead of thing.
+    JUDGES_OF_ONE = (
+        (turnings.is_return, (FAST,), ((1, 2, 1),), NO_RUNGS + [(1, 2), (True, 2, 1), (1, 2, True), (1.0, 2, 1), (1, 2, 1, 0)]),
+        (turnings.is_return, ((1, 2, 3),), ((0, 3, 1),), [(False, 3, 1), (0, 3, True), (3, 3, 1), (0, 3, 1.0), (0, 6, 2)]),
+        (sides.is_gainer, ((2, 2, 4, 5, 6, 6), 1, 3), (0, 2, 4), NO_NUMBERS + [1, 3, 5, 6, 8, -2, -4, -6, 10 ** 30, 2.0]),
+        (sides.is_gainer, ((0, 0, 0), 0, 1), (0,), NO_NUMBERS + [1, 2, 3, -3, 10 ** 30, 0.0]),
+        (sides.is_lagger, ((1, 1, 4, 4, 5), 0, 1), (1,), NO_NUMBERS + [0, 2, 3, 4, 5, 6, -4, 10 ** 30, 1.0]),
+        (sides.is_lagger, (FAST, 1, 2), (1, 2, 3, 4), NO_NUMBERS + [0, 5, 6, -1, -4, 10 ** 30, 1.0, 3.0]),
+        (ladders.is_ladder, (CLIMBED,), (LADDER,), NO_RUNGS_IN_A_ROW + [
+            (), LADDER[:2], LADDER[1:], LADDER * 2, LADDER[::-1], (LADDER,), list(LADDER), LADDER + (None,),
+            LADDER[:2] + ((True, 0, ((0,), (0,))),), LADDER[:2] + ((1, False, ((0,), (0,))),),
+            LADDER[:2] + ((1, 0, ((0,), (False,))),), LADDER[:2] + ((1, 0, [(0,), (0,)]),),
+            LADDER[:2] + ((1, 0, ((0,), (0,)), ()),), LADDER[:2] + ((1, 0, ((0,),)),), LADDER[:2] + (None,),
+        ]),
     )
 
     def deep(self):
@@ -194,6 +220,27 @@ class Things(unittest.TestCase):
                 with self.subTest(judge=judge.__name__, thing=repr(thing)):
                     self.assertIs(judge(thing), False)
 
+    def test_of_one(self):
+        for judge, ahead, good, bad in self.JUDGES_OF_ONE:
+            for thing in good:
+                self.assertIs(judge(*ahead, thing), True, (judge, thing))
+                self.assertIs(judge(*ahead, thing=thing), True, (judge, thing))
+            for thing in bad + self.deep():
+                if not (type(thing) is int and thing in good):
+                    with self.subTest(judge=judge.__name__, thing=repr(thing)):
+                        self.assertIs(judge(*ahead, thing), False)
+
+    def test_the_judges_above_are_all(self):
+        judged = {own[0] for own in self.JUDGES + self.JUDGES_OF_ONE}
+        self.assertEqual(judged, {function for function, names, values in CALLS if "thing" in names})
+
+    def test_whatever_thing_is_the_others_are_refused(self):
+        for function, values, place, wrong in UNFIT:
+            if function in [own[0] for own in self.JUDGES_OF_ONE]:
+                for thing in (None, (), [], 1, True, "a", ((1,), [2]), values[-1]):
+                    given = values[:place] + (None,) + values[place + 1:-1] + (thing,)
+                    self.assertRaises(Unfit, function, *given)
+
     def test_a_list_is_no_tuple(self):
         for judge, good, bad in self.JUDGES:
             for thing in good:
@@ -202,6 +249,13 @@ class Things(unittest.TestCase):
                         self.assertIs(judge(form), False)
         self.assertIs(wheels.is_train(([1, 1, 3], (0, 2, 3))), False)
         self.assertIs(wheels.is_train(((1, 1, 3), [0, 2, 3])), False)
+
+    def test_a_list_within_a_tuple_is_no_tuple(self):
+        self.assertIs(ladders.is_rung((3, 1, [])), False)
+        self.assertIs(ladders.is_rung((3, 1, ([1, 1, 3],))), False)
+        self.assertIs(ladders.is_rung((3, 1, [(1, 1, 3)])), False)
+        for depth in range(4):
+            self.assertIs(ladders.is_ladder(CLIMBED, with_lists(LADDER, depth)), False)
 
     def test_true_is_no_number(self):
         self.assertIs(fractions.is_fraction((True, 1)), False)

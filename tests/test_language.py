@@ -34,6 +34,9 @@ BARRED = set(
     " super type vars sys".split()
 )
 
+# A doctest that ran ahead leaves "_" among the builtins.
+BUILT_IN = set(vars(builtins)) - {"_"}
+
 NODES_BARRED = (
     ast.Import, ast.Global, ast.AsyncFunctionDef, ast.AsyncFor, ast.AsyncWith, ast.Await, ast.Div, ast.MatMult,
     ast.TryStar,
@@ -139,15 +142,15 @@ class Names(unittest.TestCase):
 
     def test_only_some_builtins(self):
         for name, node in walked(ast.Name):
-            if node.id in vars(builtins) and node.id not in at_top(name):
+            if node.id in BUILT_IN and node.id not in at_top(name):
                 self.assertIn(node.id, BUILTINS, (name, node.lineno))
 
     def test_no_builtin_has_another_meaning(self):
         for name, node in walked((ast.FunctionDef, ast.Lambda)):
             own = bound(node) + ([node.name] if isinstance(node, ast.FunctionDef) else [])
-            self.assertEqual([word for word in own if word in vars(builtins) or word in BARRED], [], name)
+            self.assertEqual([word for word in own if word in BUILT_IN or word in BARRED], [], name)
         for name in TREES:
-            self.assertEqual([word for word in at_top(name) if word in vars(builtins) or word in BARRED], [], name)
+            self.assertEqual([word for word in at_top(name) if word in BUILT_IN or word in BARRED], [], name)
 
     def test_no_local_has_the_name_of_an_import_or_a_class(self):
         for name, node in walked(ast.FunctionDef):
@@ -189,7 +192,7 @@ class Code(unittest.TestCase):
     def test_no_python_error_is_caught_or_raised(self):
         for name, node in walked(ast.Raise):
             self.assertIsInstance(node.exc, ast.Call, (name, node.lineno))
-            self.assertNotIn(node.exc.func.id, vars(builtins), (name, node.lineno))
+            self.assertNotIn(node.exc.func.id, BUILT_IN, (name, node.lineno))
         for name, node in walked(ast.ExceptHandler):
             self.assertIsNotNone(node.type, (name, node.lineno))
 

@@ -9,58 +9,7 @@ from bothwheels.wheels import (
     finer, from_elsewhere, is_at_most, is_shift, is_train, is_wheel, leads, led_from, led_places, power, put_together,
     shift, slips_of, steps_of,
 )
-
-
-def small_wheels(places, low, high):
-    """All WHEELS of so many places with a first number from low to high."""
-    found = []
-    for first in range(low, high + 1):
-        for rest in itertools.combinations_with_replacement(range(first, first + places + 1), places - 1):
-            found.append((first,) + rest)
-    return found
-
-
-SMALL = [wheel for places in (1, 2, 3, 4) for wheel in small_wheels(places, -places - 1, places + 1)]
-
-
-def drawn_wheel(draw, places, size):
-    """A WHEEL of so many places, its numbers by size to about size."""
-    first = draw.randrange(-size, size - places + 1)
-    return (first,) + tuple(sorted([first + draw.randrange(places + 1) for place in range(places - 1)]))
-
-
-def drawn(draw, size=60):
-    """A WHEEL on a drawn ring."""
-    return drawn_wheel(draw, draw.randrange(1, 25), size)
-
-
-def walked(wheel, number):
-    """Where wheel leads number, round by round."""
-    places, rounds = len(wheel), 0
-    while number < 0:
-        number, rounds = number + places, rounds - 1
-    while number >= places:
-        number, rounds = number - places, rounds + 1
-    return wheel[number] + rounds * places
-
-
-def led_at_once(wheel, number):
-    """As walked, for numbers so great that round by round would take too long."""
-    place = number % len(wheel)
-    return wheel[place] + number - place
-
-
-def told_by(places, where):
-    """The WHEEL of so many places that leads each one where the function says."""
-    return tuple([where(place) for place in range(places)])
-
-
-def slow_power(wheel, beats):
-    """The WHEEL beat by beat."""
-    together = tuple(range(len(wheel)))
-    for beat in range(beats):
-        together = told_by(len(wheel), lambda place: walked(wheel, together[place]))
-    return together
+from tests.reckoning import SMALL, drawn, drawn_wheel, led_at_once, slow_power, small_wheels, told_by, walked
 
 
 class WhatIsAWheel(unittest.TestCase):
