@@ -32,10 +32,15 @@ def as_fractions(value):
     return told
 
 
+def is_turns(value):
+    """Whether value is TURNS."""
+    return isinstance(value, tuple) and value != () and all([is_fraction(own) for own in value])
+
+
 def as_turns(value):
     """The TURNS that value is, as a tuple; Unfit() if it is none."""
-    told = as_fractions(value)
-    if told == ():
+    told = with_tuples(value, 2)
+    if not is_turns(told):
         raise Unfit()
     return told
 

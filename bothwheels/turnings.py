@@ -16,16 +16,22 @@ def _led_to_place(wheel, place):
     return led_to(wheel, place) % len(wheel)
 
 
+def _back_to(wheel, place):
+    """The pair of the beats and the rounds with which place, an own one, first comes back."""
+    at = led_to(wheel, place)
+    beats = 1
+    while (at - place) % len(wheel) != 0:
+        at = led_to(wheel, at)
+        beats += 1
+    return (beats, (at - place) // len(wheel))
+
+
 def come_back(wheel):
     """The RETURN of wheel."""
     told = as_wheel(wheel)
     place = own_places(told)[0]
-    at = led_to(told, place)
-    beats = 1
-    while (at - place) % len(told) != 0:
-        at = led_to(told, at)
-        beats += 1
-    return (place, beats, (at - place) // len(told))
+    beats, rounds = _back_to(told, place)
+    return (place, beats, rounds)
 
 
 def is_return(wheel, thing):
@@ -35,7 +41,12 @@ def is_return(wheel, thing):
 
 def turning(wheel):
     """The TURNING of wheel."""
-    _, beats, rounds = come_back(wheel)
+    told = as_wheel(wheel)
+    place = 0
+    # All own places tell the same: any of them will do, and by N beats one is come to.
+    for _ in range(len(told)):
+        place = _led_to_place(told, place)
+    beats, rounds = _back_to(told, place)
     # They have no common divisor.
     return (rounds, beats)
 

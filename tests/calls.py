@@ -1,11 +1,16 @@
 """Calls of each function, and its arguments that are checked, for the rules that hold for all."""
 
 from bothwheels import (
-    backs, fractions, ladders, led, most, seen, sides, signs, turnings, wheels, words,
+    backs, fractions, goals, judge, ladders, led, makers, most, rows, seen, sides, signs, stairs, teeth, texts, turnings, wheels,
+    words,
+)
+from tests.calls_more import (
+    BOTH, CORNER, FALLEN, GOAL, HIGH, LOW, MARK, MORE_CALLS, SLIP, SLOW, STANDING, STEEP, WALK,
 )
 from tests.wrong import (
-    NO_FRACTIONS, NO_FRACTIONS_IN_A_ROW, NO_NUMBERS, NO_NUMBERS_FROM_0, NO_NUMBERS_FROM_1, NO_PIECES, NO_PLACES_OF_5,
-    NO_RUNGS, NO_RUNGS_IN_A_ROW, NO_TRAINS, NO_TURNS, NO_WHEELS, NO_WORDS,
+    NO_COUNTS, NO_DEMANDS, NO_DEMANDS_IN_A_ROW, NO_FRACTIONS, NO_FRACTIONS_IN_A_ROW, NO_LETTERS, NO_NUMBERS, NO_NUMBERS_FROM_0,
+    NO_NUMBERS_FROM_1, NO_NUMBERS_OF_TWO, NO_PIECES, NO_PLACES_OF_5, NO_PLANS, NO_RISING_OF_TWO, NO_RUNGS, NO_RUNGS_IN_A_ROW,
+    NO_RUNGS_TOLD, NO_TEETH, NO_TRAINS, NO_TURNS, NO_TURNS_OF_TWO, NO_WHEELS, NO_WISHES_IN_A_ROW, NO_WORDS, NO_WORDS_OF_TWO,
 )
 
 WHEEL, OTHER = (1, 1, 3), (0, 2, 3)
@@ -154,6 +159,7 @@ CALLS = [
     (ladders.broken_at, ("train", "ladder"), (CLIMBED, LADDER[:2])),
     (ladders.broken_at, ("train", "ladder"), (CLIMBED, ())),
 ]
+CALLS += MORE_CALLS
 
 
 # For each argument for which the document states Unfit(): a call that is fine but for
@@ -219,6 +225,16 @@ KINDS = {
     "rung": NO_RUNGS,
     "ladder": NO_RUNGS_IN_A_ROW,
     "beats": NO_NUMBERS_FROM_1,
+    "row": NO_WORDS_OF_TWO,
+    "rungs": NO_RUNGS_TOLD,
+    "wishes": NO_WISHES_IN_A_ROW,
+    "tooth": NO_TEETH,
+    "plan": NO_PLANS,
+    "goal": NO_FRACTIONS,
+    "turn": NO_FRACTIONS,
+    "far": NO_NUMBERS,
+    "demand": NO_DEMANDS,
+    "demands": NO_DEMANDS_IN_A_ROW,
 }
 KINDS_APART = {
     (turnings.after, "beats"): NO_NUMBERS_FROM_0,
@@ -227,19 +243,38 @@ KINDS_APART = {
     (most.value_at, "number"): NO_NUMBERS_FROM_1,
     (ladders.end_of, "ladder"): NO_RUNGS_IN_A_ROW + [(), []],
     (ladders.ring_of, "ladder"): NO_RUNGS_IN_A_ROW + [(), []],
+    (rows.many_rows, "numbers"): NO_COUNTS,
+    (rows.rows, "numbers"): NO_COUNTS,
+    (rows.led_train, "numbers"): NO_NUMBERS_OF_TWO,
+    (rows.row_turning, "numbers"): NO_NUMBERS_OF_TWO,
+    (teeth.row_wheel, "row"): NO_RISING_OF_TWO,
+    (stairs.just_below, "most"): NO_NUMBERS_FROM_1,
+    (stairs.least_beside, "letter"): NO_LETTERS,
+    (goals.first_at, "goal"): NO_NUMBERS,
+    (goals.last_below, "goal"): NO_NUMBERS,
+    (goals.slowest, "rounds"): NO_NUMBERS_FROM_1,
+    (goals.quickest, "rounds"): NO_NUMBERS_FROM_1,
 }
-LATER = ("turnings", "sides", "backs", "led", "seen", "words", "most", "ladders")
+# In these all that tells of letters tells of two.
+OF_TWO = (
+    rows.row_turning, rows.most_of, rows.best_row, rows.least_of, rows.bar, rows.is_bar, stairs.can, stairs.most_bottoms,
+    stairs.least_beside, stairs.corners, stairs.is_corner, stairs.corner_paper, stairs.is_corner_paper,
+)
+for function in OF_TWO:
+    KINDS_APART[(function, "word")] = NO_WORDS_OF_TWO
+    KINDS_APART[(function, "turns")] = NO_TURNS_OF_TWO
+EARLY = ("signs", "fractions", "wheels")
 
 
 def unfit_of_later_files():
     """As UNFIT, of all CALLS of the later files."""
     found = []
     for function, names, values in CALLS:
-        if function.__module__.split(".")[1] not in LATER:
+        if function.__module__.split(".")[1] in EARLY:
             continue
         for at, name in enumerate(names):
-            if name != "thing":
-                found.append((function, values, at, KINDS_APART.get((function, name), KINDS[name])))
+            if name not in ("thing", "text"):
+                found.append((function, values, at, KINDS_APART.get((function, name), KINDS.get(name))))
     return found
 
 
@@ -283,4 +318,47 @@ UNFIT_AHEAD = [
     (ladders.next_rung, ((1, 0, ((0,),)),), 0, NO_RUNGS),
     (ladders.is_ladder, (CLIMBED, None), 0, NO_TRAINS),
     (ladders.broken_at, (CLIMBED, ()), 0, NO_TRAINS),
+    (makers.raised, (SLOW, (-1, 1)), 0, NO_WHEELS),
+    (makers.lowered, (SLOW, HALF), 0, NO_WHEELS),
+    (makers.is_raised, (SLOW, HALF, None), 0, NO_WHEELS),
+    (makers.is_raised, (SLOW, HALF, None), 1, NO_FRACTIONS),
+    (makers.is_lowered, (SLOW, HALF, None), 0, NO_WHEELS),
+    (makers.is_lowered, (SLOW, HALF, None), 1, NO_FRACTIONS),
+    (makers.reached, (((1, 41), (1, 53)),), 0, NO_TURNS),
+    (makers.is_reached, (((1, 41), (1, 53)), None), 0, NO_TURNS),
+    (makers.is_lowest, (BOTH, None), 0, NO_TURNS),
+    (rows.rows, ((3, 3, 3),), 0, NO_COUNTS),
+    (rows.bar, ((0, 1), ((1, 7), (1, 7)), HALF), 0, NO_WORDS_OF_TWO),
+    (rows.bar, ((0, 1), ((1, 7), (1, 7)), HALF), 1, NO_TURNS_OF_TWO),
+    (rows.bar, ((0, 1), ((1, 7), (1, 7)), HALF), 2, NO_FRACTIONS),
+    (rows.bar, ((0, 1), BOTH, HALF), 2, NO_FRACTIONS),
+    (rows.is_bar, ((0, 1), ((1, 7), (1, 7)), HALF, None), 2, NO_FRACTIONS),
+    (rows.most_of, ((0, 1), ((1, 7), (1, 7))), 0, NO_WORDS_OF_TWO),
+    (teeth.with_tooth, (LOW, (1, 1)), 0, NO_WHEELS),
+    (teeth.behind_plan, (LOW, ((1, 1),)), 0, NO_WHEELS),
+    (teeth.turnings_along, (LOW, ((1, 1),)), 0, NO_WHEELS),
+    (teeth.behind_plan, (LOW, ((1, 1), (2, 1))), 1, NO_PLANS + [((1, 1), (2, 0)), ((1, 1), None)]),
+    (teeth.plan, ((0, 1), (2000, 2001)), 0, NO_WHEELS),
+    (teeth.plan, ((0, 1), (2000, 2001)), 1, NO_WHEELS),
+    (teeth.fewest, ((0,) * 9, (1, 7)), 0, NO_WHEELS),
+    (teeth.fewest, ((0,) * 9, (1, 7)), 1, NO_FRACTIONS),
+    (teeth.fewest_plan, ((0,) * 9, (1, 7)), 1, NO_FRACTIONS),
+    (teeth.is_fewest_plan, ((0,) * 9, (1, 7), None), 0, NO_WHEELS),
+    (teeth.is_fewest_plan, ((0,) * 9, (1, 7), None), 1, NO_FRACTIONS),
+    (teeth.is_plan, (LOW, HIGH, None), 1, NO_WHEELS),
+    (stairs.can, ((0, 1), ((1, 5), (1, 4)), GOAL), 2, NO_FRACTIONS),
+    (stairs.least_beside, (STEEP, (1, 5), 0, HALF), 2, NO_LETTERS),
+    (stairs.least_beside, (STEEP, (1, 5), 0, HALF), 3, NO_FRACTIONS),
+    (stairs.corners, (STEEP, (1, 5)), 0, NO_WORDS_OF_TWO),
+    (stairs.is_corner, (STEEP, (1, 5), None), 0, NO_WORDS_OF_TWO),
+    (stairs.corner_paper, (STEEP, (1, 5), CORNER), 2, NO_TURNS_OF_TWO),
+    (stairs.corner_paper, (STEEP, GOAL, (HALF, HALF)), 2, NO_TURNS_OF_TWO),
+    (stairs.is_corner_paper, (STEEP, (1, 5), CORNER, None), 2, NO_TURNS_OF_TWO),
+    (goals.last_below, ((1, 1, 3), 2, 5), 0, NO_WHEELS),
+    (goals.last_below, (SLIP, 0, 5), 1, NO_NUMBERS),
+    (goals.last_below, (SLIP, 0, 5), 2, NO_NUMBERS),
+    (goals.meeting, (WALK, 0, MARK[:3] + (5,), 0), 3, NO_NUMBERS),
+    (judge.is_paper_against, (STANDING[0], None), 0, NO_DEMANDS),
+    (judge.is_reason_for, (FALLEN[0], None), 0, NO_DEMANDS),
+    (judge.first_fallen, (FALLEN,), 0, NO_DEMANDS_IN_A_ROW + [FALLEN + (None,), (("most", ((1, 41), (1, 53)), HALF), ("most",))]),
 ]

@@ -6,7 +6,8 @@ import importlib
 from bothwheels import errors
 
 MODULES = (
-    "signs", "fractions", "wheels", "turnings", "sides", "backs", "led", "seen", "words", "ladders", "most",
+    "signs", "fractions", "wheels", "turnings", "sides", "backs", "led", "seen", "words", "ladders", "most", "makers",
+    "rows", "texts", "teeth", "stairs", "goals", "judge", "desk",
 )
 
 

@@ -1,4 +1,4 @@
-"""The examples of the document, sections 3 to 13, as they stand there; those of README.md."""
+"""The examples of the document, sections 3 to 21, as they stand there; those of README.md."""
 
 import doctest
 import os
@@ -232,10 +232,170 @@ SECTION_13 = r"""
     raises Unfit()
 """
 
+SECTION_14 = r"""
+    >>> half, third = (1, 2), (1, 3)
+    >>> f, g = (3, 6, 6, 6, 9, 9), (3, 3, 5, 5, 7, 7)
+    >>> turning(f), turning(g), turning(put_together((f, g))), most((half, third))
+    ((1, 2), (1, 3), (1, 1), (1, 1))
+    >>> [is_reached(own, (f, g)) for own in ((half, third), (third, half), (half, third, third))], is_reached((half, third), ((1, 2), (0, 2)))
+    ([True, False, False], False)
+    >>> train = reached((half, third))
+    >>> is_reached((half, third), train), [turning(own) for own in train], turning(put_together(train))
+    (True, [(1, 2), (1, 3)], (1, 1))
+    >>> slow, quick = (0, 2, 2), (1, 6, 7, 7, 7, 7)
+    >>> turning(slow), [is_raised(slow, half, own) for own in ((quick, 2), (quick, 3), [quick, 2], ((2, 3, 4, 5, 6, 7), 2), raised(slow, half))]
+    ((0, 1), [True, False, False, False, True])
+    >>> raised(slow, half)[1], is_raised(slow, (0, 1), (slow, 1)), is_raised(slow, third, (quick, 2))
+    (2, True, False)
+    >>> is_lowered(slow, (-1, 2), ((-1, -1, -1, -1, -1, 0), 2)), is_lowered(slow, (-1, 2), lowered(slow, (-1, 2)))
+    (True, True)
+    >>> least((half, third)), is_lowest((half, third), lowest((half, third))), is_lowest(((-1, 2), (-1, 3)), ((-3, -3, -3, 0, 0, 0), (-3, -1, -1, 1, 1, 3)))
+    ((1, 2), True, True)
+    >>> raised((1, 2, 3), (0, 1))
+    raises CanNot()
+    >>> lowered(slow, half)
+    raises CanNot()
+    >>> reached(((2, 4),))
+    raises Unfit()
+"""
+
+SECTION_15 = r"""
+    >>> rows((2, 2)), rows((2, 1)), rows((1, 2, 1)), many_rows((4, 4)), many_rows((6, 6, 6)), many_rows((24,))
+    ([(0, 0, 1, 1), (0, 1, 0, 1)], [(0, 0, 1)], [(0, 1, 1, 2), (0, 1, 2, 1), (0, 2, 1, 1)], 10, 953056, 1)
+    >>> led_train((0, 0, 1, 1), (1, 1)), led_train((0, 1, 0, 1), (1, 1)), led_train((0, 1), (1, 0))
+    (((1, 4, 5, 5), (3, 3, 3, 6)), ((2, 4, 4, 6), (3, 3, 5, 5)), ((2, 4), (1, 1)))
+    >>> half, both = (1, 2), ((1, 2), (1, 2))
+    >>> [row_turning((0, 1), own, (1, 1)) for own in rows((2, 2))], most_of((0, 1), both), best_row((0, 1), both), least_of((0, 1), both)
+    ([(1, 1), (3, 2)], (3, 2), (0, 1, 0, 1), (1, 2))
+    >>> most_of((0, 0, 1), (half, (1, 3))), best_row((0, 0, 1), (half, (1, 3))), least_of((0, 0, 1), (half, (1, 3)))
+    ((2, 1), (0, 0, 1, 1, 1), (1, 1))
+    >>> most_of((0, 1, 2), (half, half, half)), most_of((0,), ((2, 3),)), most_of((0, 0), ((2, 3),)), most_of((0, 1, 0, 1, 1), (half, (0, 1)))
+    ((5, 2), (2, 3), (4, 3), (2, 1))
+    >>> bar((0, 1), both, (2, 1)), bar((0, 1), ((-1, 2), (1, 1)), (3, 2)), is_bar((0, 1), both, (2, 1), ())
+    ((((0, 0, 1, 1), (1, 1, 1)), ((0, 1, 0, 1), (0, 2, 3))), (((0, 0, 1), (1, 1, 1)),), False)
+    >>> row_of(((1, 1, 4, 5, 5), (0, 3, 3, 3, 4))), is_row((0, 2)), is_row((0, 1, 0)), is_row(())
+    ((0, 1), False, True, False)
+    >>> bar((0, 1), both, (3, 2))
+    raises CanNot()
+    >>> rows((3, 3, 3))
+    raises TooMany()
+"""
+
+SECTION_16 = r"""
+    >>> train_text(((0, 2, 2), (-1, 1, 2)))
+    'ring 3\nwheel 0 2 2\nwheel -1 1 2\n'
+    >>> read_train("ring 2 # two\n\n wheel  0 1"), read_rungs("rung 2 1\nrung 1 -3\nwheel 4")
+    (((0, 1),), ((2, 1, ()), (1, -3, ((4,),))))
+    >>> wishes_text((((0, 1, 0), ((1, 2), (-1, 3)), (1, 1)),)), read_wishes("")
+    ('wish 0 1 0 turns 1/2 -1/3 goal 1\n', ())
+    >>> rungs_text(((2, 1, ()), (1, -3, ((4,),)))), is_wish(((0, 1), ((1, 2),), (1, 1))), is_rungs(())
+    ('rung 2 1\nrung 1 -3\nwheel 4\n', False, False)
+    >>> read_train("ring 3\nwheel 0 2")
+    raises BadText(line=1)
+    >>> read_train("ring 2\n")
+    raises BadText(line=0)
+    >>> read_wishes("\nwish 0 2 turns 1/2 1/2 goal 1")
+    raises BadText(line=1)
+"""
+
+SECTION_17 = r"""
+    >>> low, high = (0, 1, 1, 3), (0, 0, 2, 4)
+    >>> lesser(low, high), greater(low, high), teeth_between(low, high), teeth(low)
+    ((0, 0, 1, 3), (0, 1, 2, 4), 3, ((0, -1), (0, 1), (1, -1), (2, 1), (3, -1), (3, 1)))
+    >>> with_tooth(low, (2, 1)), is_plan(low, high, ((1, -1), (2, 1), (3, 1))), is_plan(low, high, ((1, -1), (2, 1))), is_plan(low, high, plan(low, high))
+    ((0, 1, 2, 3), True, False, True)
+    >>> turnings_along((0, 0, 0), ((2, 1), (1, 1), (0, 1), (2, 1))), behind_plan((0, 0, 0), ((2, 1), (1, 1)))
+    ([(0, 1), (0, 1), (0, 1), (0, 1), (0, 1)], (0, 1, 1))
+    >>> row_wheel((0, 2), (1, 2), 4), row_wheel((1, 1), (1, 2), 3), fewest((0, 0, 0), (1, 2)), fewest((0, 0, 0), (0, 1)), fewest((0, 1, 2), (1, 1))
+    ((2, 2, 4, 4), (1, 4, 4), 7, 0, 6)
+    >>> is_fewest_plan((0, 0, 0), (1, 2), fewest_plan((0, 0, 0), (1, 2))), is_fewest_plan((0, 0, 0), (0, 1), ())
+    (True, True)
+    >>> with_tooth(low, (1, 1))
+    raises CanNot()
+    >>> behind_plan(low, ((2, 1), (1, -1), (1, -1)))
+    raises Broken(place=2)
+"""
+
+SECTION_18 = r"""
+    >>> corners((0, 0, 1), (3, 2)), corners((0, 0, 1, 1), (2, 1))
+    ((((1, 4), (1, 2)), ((1, 2), (0, 1))), (((0, 1), (1, 2)), ((1, 2), (0, 1))))
+    >>> corners((0, 1, 0, 1), (5, 2))
+    (((1, 4), (3, 4)), ((1, 3), (2, 3)), ((1, 2), (1, 2)), ((2, 3), (1, 3)), ((3, 4), (1, 4)))
+    >>> [can((0, 0, 1), own, (3, 2)) for own in (((1, 4), (1, 2)), ((1, 5), (1, 2)), ((1, 4), (1, 3)), ((1, 2), (0, 1)))]
+    [True, False, False, True]
+    >>> least_beside((0, 0, 1), (3, 2), 0, (1, 2)), least_beside((0, 0, 1), (3, 2), 1, (1, 4)), least_beside((0, 0, 1), (3, 2), 1, (0, 1)), most_bottoms((0, 0, 1), (3, 2))
+    ((1, 4), (1, 2), (1, 1), (4, 2))
+    >>> just_below((1, 2), 4), just_below((0, 1), 3), just_below((-3, 2), 2)
+    ((1, 3), (-1, 3), (-2, 1))
+    >>> paper = corner_paper((0, 0, 1), (3, 2), ((1, 4), (1, 2)))
+    >>> is_corner_paper((0, 0, 1), (3, 2), ((1, 4), (1, 2)), paper), is_corner_paper((0, 0, 1), (3, 2), ((1, 4), (1, 2)), paper[:1] + paper[:0:-1])
+    (True, False)
+    >>> [is_corner((0, 0, 1), (3, 2), own) for own in (((1, 4), (1, 2)), ((1, 2), (1, 2)), ((1, 4), (2, 4)), [(1, 2), (0, 1)])]
+    [True, False, False, False]
+    >>> corner_paper((0, 0, 1), (3, 2), ((1, 2), (1, 2)))
+    raises CanNot()
+    >>> corners((0, 0, 0, 1, 1), (3, 2))
+    raises TooMany()
+"""
+
+SECTION_19 = r"""
+    >>> slow, quick, halts = (1, 2, 3, 5), (2, 2, 4, 5), (1, 1, 3)
+    >>> [first_at(slow, 0, own) for own in (-2, 0, 1, 10, 10 ** 30)]
+    [0, 0, 1, 8, 750000000000000000000000000001]
+    >>> [last_below(slow, 0, own) for own in (0, 1, 10)], [first_at(halts, 2, own) for own in (2, 3, 4, 5)], last_below(halts, 2, 4)
+    ([None, 0, 7], [0, 1, 2, None], 1)
+    >>> way_of(slow, 0), way_of(halts, 1), way_of(halts, 2), way_of((-3, -1, -1), 5), first_at((-3, -1, -1), 5, 6)
+    (1, 0, 1, -1, None)
+    >>> first_passed(quick, 0, slow, 20), first_passed(slow, 0, quick, 20), meeting(quick, 0, slow, 20), meeting(quick, 0, slow, 21)
+    (29, None, 29, 31)
+    >>> first_passed(quick, 0, slow, 10 ** 24), meeting_place(quick, 0, slow, 20), meeting_place(quick, 1, slow, 3), meeting_place((2, 3), 0, (2, 3), 1)
+    (1499999999999999999999999, 0, 5, None)
+    >>> slowest(slow, 1), slowest(quick, 3), quickest(slow, 1), quickest(quick, 3), slowest(halts, 1), quickest(halts, 1)
+    ((0, 4), (1, 7), (1, 3), (0, 6), None, None)
+    >>> last_below(halts, 2, 5)
+    raises CanNot()
+    >>> meeting(slow, 0, halts, 0)
+    raises Unfit()
+"""
+
+SECTION_20 = r"""
+    >>> on, slip = (1, 2, 3), (0, 0, 3)
+    >>> is_so(("train", (on, slip), (0, 1))), is_so(("train", (on, slip), (-1, 2))), is_so(("train", (on, on), (1, 2)))
+    (True, False, False)
+    >>> is_reason_for(("train", (on, slip), (0, 1)), (1, 1, 0)), is_paper_against(("train", (on, slip), (-1, 2)), (1, 3, -1)), is_paper_against(("train", (on, slip), (-1, 2)), (1, 2, -1))
+    (True, True, False)
+    >>> half, third = (1, 2), (1, 3)
+    >>> is_so(("most", (half, third), (1, 1))), is_so(("most", (half, third), (5, 6))), reason_for(("most", (half, third), (1, 1)))
+    (True, False, (1, 2, 3, 4, 4, 6))
+    >>> is_so(("word", (0, 1), (half, third), (1, 1))), is_so(("word", (0, 1), (half, third), (5, 4))), is_paper_against(("word", (0, 1), (half, third), (1, 1)), ((1, 2), (0, 1)))
+    (False, True, False)
+    >>> is_so(("teeth", slip, (0, 1, 3), 1)), is_so(("teeth", slip, (0, 1, 3), 0)), paper_against(("teeth", slip, (0, 1, 3), 0))
+    (True, False, (0, 1, 0))
+    >>> is_reason_for(("teeth", slip, (0, 1, 3), 3), ((1, 1), (1, -1), (1, 1))), is_demand(("teeth", slip, (0, 1), 1)), first_fallen((("most", (half,), half), ("most", (half,), third)))
+    (True, False, 1)
+"""
+
+SECTION_21 = r"""
+    >>> desk = Desk()
+    >>> desk.say("wheel on 1 2 3\nwheel slip 0 0 3\nwheel odd 2 1\nturn on\ntrain on slip\nmost on on\nend on slip")
+    ('done', 'done', 'no wheel', '1/3', '0/1', '1/1', '1/1')
+    >>> desk.say("tooth slip 1 more\ntooth slip 3 less\ntrain slip on\nturn away\nwheel pair 1 1\ntrain on pair"), desk.wheel("slip"), desk.names()
+    (('done', 'no tooth', '1/2', 'no name', 'done', 'rings'), (0, 1, 3), ('on', 'pair', 'slip'))
+    >>> desk.undo(), desk.wheel("slip"), desk.redo(), desk.say("names\nwheel low -3 -2 0\nturn low")
+    (2, (0, 0, 3), 3, ('on, pair, slip', 'done', '-1/1'))
+    >>> desk.say("wheel on 01 2 3")
+    raises BadText(line=0)
+    >>> other = desk.twin()
+    >>> other.say("drop pair\ndrop pair"), other == desk, other.undo(), other == desk
+    (('done', 'no name'), False, 4, True)
+    >>> Desk().undo()
+    raises NothingDone()
+"""
+
 
 SECTIONS = (
     SECTION_3, SECTION_4, SECTION_5, SECTION_6, SECTION_7, SECTION_8, SECTION_9, SECTION_10, SECTION_11, SECTION_12,
-    SECTION_13,
+    SECTION_13, SECTION_14, SECTION_15, SECTION_16, SECTION_17, SECTION_18, SECTION_19, SECTION_20, SECTION_21,
 )
 
 
@@ -249,7 +409,7 @@ class Examples(unittest.TestCase):
 
     def test_each_section_has_its_examples(self):
         many = [len(parted(section)) for section in SECTIONS]
-        self.assertEqual(many, [6, 10, 9, 12, 11, 8, 11, 9, 9, 10, 7])
+        self.assertEqual(many, [6, 10, 9, 12, 11, 8, 11, 9, 9, 10, 7, 14, 10, 7, 8, 10, 9, 8, 8])
 
     def test_readme(self):
         top = os.path.dirname(os.path.dirname(os.path.abspath(__file__)))

@@ -5,6 +5,7 @@ import inspect
 import unittest
 
 from bothwheels import errors
+from bothwheels.desk import Desk
 
 ERRORS = {
     "NoLetter": (LookupError, ("letter",)),
@@ -155,6 +156,93 @@ FUNCTIONS = {
         "is_between": ("turns", "fraction"),
         "slack": ("turns",),
     },
+    "makers": {
+        "raised": ("wheel", "fraction"),
+        "is_raised": ("wheel", "fraction", "thing"),
+        "lowered": ("wheel", "fraction"),
+        "is_lowered": ("wheel", "fraction", "thing"),
+        "reached": ("turns",),
+        "is_reached": ("turns", "thing"),
+        "lowest": ("turns",),
+        "is_lowest": ("turns", "thing"),
+    },
+    "rows": {
+        "is_row": ("thing",),
+        "many_rows": ("numbers",),
+        "rows": ("numbers",),
+        "led_train": ("row", "numbers"),
+        "row_of": ("train",),
+        "row_turning": ("word", "row", "numbers"),
+        "most_of": ("word", "turns"),
+        "best_row": ("word", "turns"),
+        "least_of": ("word", "turns"),
+        "bar": ("word", "turns", "fraction"),
+        "is_bar": ("word", "turns", "fraction", "thing"),
+    },
+    "texts": {
+        "train_text": ("train",),
+        "rungs_text": ("rungs",),
+        "wishes_text": ("wishes",),
+        "read_train": ("text",),
+        "read_rungs": ("text",),
+        "read_wishes": ("text",),
+        "is_wish": ("thing",),
+        "is_rungs": ("thing",),
+    },
+    "teeth": {
+        "lesser": ("wheel", "other"),
+        "greater": ("wheel", "other"),
+        "teeth": ("wheel",),
+        "with_tooth": ("wheel", "tooth"),
+        "behind_plan": ("wheel", "plan"),
+        "turnings_along": ("wheel", "plan"),
+        "teeth_between": ("wheel", "other"),
+        "plan": ("wheel", "other"),
+        "is_plan": ("wheel", "other", "thing"),
+        "row_wheel": ("row", "goal", "ring"),
+        "fewest": ("wheel", "goal"),
+        "fewest_plan": ("wheel", "goal"),
+        "is_fewest_plan": ("wheel", "goal", "thing"),
+    },
+    "stairs": {
+        "can": ("word", "turns", "fraction"),
+        "most_bottoms": ("word", "fraction"),
+        "just_below": ("fraction", "most"),
+        "least_beside": ("word", "fraction", "letter", "turn"),
+        "corners": ("word", "fraction"),
+        "is_corner": ("word", "fraction", "thing"),
+        "corner_paper": ("word", "fraction", "turns"),
+        "is_corner_paper": ("word", "fraction", "turns", "thing"),
+    },
+    "goals": {
+        "way_of": ("wheel", "place"),
+        "first_at": ("wheel", "place", "goal"),
+        "last_below": ("wheel", "place", "goal"),
+        "first_passed": ("wheel", "place", "other", "far"),
+        "meeting": ("wheel", "place", "other", "far"),
+        "meeting_place": ("wheel", "place", "other", "far"),
+        "slowest": ("wheel", "rounds"),
+        "quickest": ("wheel", "rounds"),
+    },
+    "judge": {
+        "is_demand": ("thing",),
+        "is_so": ("demand",),
+        "paper_against": ("demand",),
+        "is_paper_against": ("demand", "thing"),
+        "reason_for": ("demand",),
+        "is_reason_for": ("demand", "thing"),
+        "first_fallen": ("demands",),
+    },
+}
+
+# The methods of Desk, with their arguments behind the object itself.
+METHODS = {
+    "say": ("text",),
+    "names": (),
+    "wheel": ("name",),
+    "undo": (),
+    "redo": (),
+    "twin": (),
 }
 
 
@@ -230,6 +318,35 @@ class Functions(unittest.TestCase):
         for module, function, arguments in self.each():
             self.assertTrue(inspect.isfunction(function))
             self.assertEqual(function.__module__, "bothwheels." + module)
+
+
+class TheDesk(unittest.TestCase):
+    def test_made_without_arguments(self):
+        self.assertEqual(tuple(inspect.signature(Desk).parameters), ())
+        self.assertEqual(Desk.__module__, "bothwheels.desk")
+        self.assertEqual(Desk.__bases__, (object,))
+
+    def test_methods_stand_in_the_class_itself(self):
+        for name, arguments in METHODS.items():
+            self.assertIn(name, vars(Desk))
+            parameters = list(inspect.signature(vars(Desk)[name]).parameters.values())[1:]
+            self.assertEqual(tuple([own.name for own in parameters]), arguments, name)
+            for parameter in parameters:
+                self.assertEqual(parameter.kind, inspect.Parameter.POSITIONAL_OR_KEYWORD)
+                self.assertEqual(parameter.default, inspect.Parameter.empty)
+        self.assertIn("__eq__", vars(Desk))
+
+
+class TheDocument(unittest.TestCase):
+    """All names of the interface are looked at above."""
+
+    MANY = {
+        "signs": 6, "fractions": 16, "wheels": 14, "turnings": 9, "sides": 13, "backs": 6, "led": 9, "seen": 11, "words": 14,
+        "ladders": 11, "most": 6, "makers": 8, "rows": 11, "texts": 8, "teeth": 13, "stairs": 8, "goals": 8, "judge": 7,
+    }
+
+    def test_how_many_names_each_file_has(self):
+        self.assertEqual({module: len(functions) for module, functions in FUNCTIONS.items()}, self.MANY)
 
 
 if __name__ == "__main__":
