@@ -64,17 +64,25 @@ def many_rows(numbers):
     return same // places
 
 
+def _letters_left(left):
+    """The letters of which left tells one or more."""
+    return [letter for letter, count in enumerate(left) if count > 0]
+
+
+def _without(left, letter):
+    """left, with one less of letter."""
+    return left[:letter] + (left[letter] - 1,) + left[letter + 1:]
+
+
 def _rows_with(counts):
     """The list, ascending, of the ROWS with each letter as often as counts tell; TooMany() beyond a limit."""
     if _many_apart(counts) > MOST_ROWS:
         raise TooMany()
     # The least of turned ones begins with a least letter.
-    found = [(0,)]
+    found = [((0,), (counts[0] - 1,) + tuple(counts[1:]))]
     for _ in range(sum(counts) - 1):
-        found = [
-            row + (letter,) for row in found for letter, count in enumerate(counts) if row.count(letter) < count
-        ]
-    return [row for row in found if row == least_turned(row)]
+        found = [(row + (letter,), _without(left, letter)) for row, left in found for letter in _letters_left(left)]
+    return [row for row, left in found if row == least_turned(row)]
 
 
 def rows(numbers):

@@ -71,7 +71,7 @@ def turned_word(word, number):
 def least_turned(word):
     """The least of all that word is, begun elsewhere."""
     told = as_word(word)
-    return min([turned_word(told, start) for start in range(len(told))])
+    return min([told[start:] + told[:start] for start in range(len(told))])
 
 
 def are_turned(word, other):
