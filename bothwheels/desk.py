@@ -12,7 +12,7 @@ NAME_SIGNS = "abcdefghijklmnopqrstuvwxyz"
 MOST_SIGNS = 12
 MOST_NUMBERS = 24
 MOST_NAMES = 5
-BEYOND_FIGURES = 10 ** 6
+GREATEST_NUMBER = 999999
 WAYS = {"more": 1, "less": -1}
 
 
@@ -29,7 +29,7 @@ def _are_names(words):
 def _is_number_word(word):
     """Whether word is a number word: of 1 to 6 figures."""
     number = number_of(word)
-    return number is not None and abs(number) < BEYOND_FIGURES
+    return number is not None and abs(number) <= GREATEST_NUMBER
 
 
 def _is_wheel_line(words):

@@ -147,7 +147,7 @@ def _shortest(wheel, other):
     if _apart(wheel, other) > MOST_TEETH:
         raise TooMany()
     low = lesser(wheel, other)
-    up = [(place, 1) for place, _ in _plan_down(other, low)]
+    up = [(place, -way) for place, way in _plan_down(other, low)]
     return tuple(_plan_down(wheel, low) + up[::-1])
 
 
