@@ -176,10 +176,8 @@ def _is_teeth_paper(demand, thing):
 
 
 def _teeth_reason(demand):
-    """A PLAN from the one WHEEL to the other, or None; TooMany() if the shortest one is too long."""
-    # A PLAN that would be too long is refused ahead of all, even if the DEMAND does not stand.
-    shortest = plan(demand[1], demand[2])
-    return shortest if _teeth_stands(demand) else None
+    """A PLAN from the one WHEEL to the other, or None; TooMany() if it would be too long."""
+    return plan(demand[1], demand[2]) if _teeth_stands(demand) else None
 
 
 def _is_teeth_reason(demand, thing):

@@ -85,7 +85,7 @@ def many_led(places, number, ring):
     return many
 
 
-def _rising_rows(many, first, last):
+def rising_rows(many, first, last):
     """All rows of so many numbers from first to last, none below the one ahead of it."""
     rows = [()]
     for _ in range(many):
@@ -97,7 +97,7 @@ def _all_led(places, number, ring):
     """All WHEELS that lead places by number, ascending."""
     rows = [()]
     for gap, start, reach in _spans(places, number, ring):
-        between = _rising_rows(gap - 1, start, start + reach)
+        between = rising_rows(gap - 1, start, start + reach)
         rows = [row + (start,) + more for row in rows for more in between]
     # These rows begin at the first of places: what stands at their end is led
     # from ahead of it, a round back.

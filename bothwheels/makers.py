@@ -66,11 +66,6 @@ def _is_no_less(wheel, other, many):
     return all([other[many * place] >= many * number for place, number in enumerate(wheel)])
 
 
-def _is_no_more(wheel, other, many):
-    """Whether other, with so many places for each one of wheel's, is no more than wheel."""
-    return all([other[many * place] <= many * number for place, number in enumerate(wheel)])
-
-
 def is_raised(wheel, fraction, thing):
     """Whether thing is a pair raised from wheel to fraction."""
     told = as_wheel(wheel)
@@ -88,7 +83,7 @@ def is_lowered(wheel, fraction, thing):
     if not _is_finer_pair(told, thing):
         return False
     other, many = thing
-    return _is_no_more(told, other, many) and turning(other) == goal
+    return _is_no_less(mirrored(told), mirrored(other), many) and turning(other) == goal
 
 
 def _places_that_reach(turns):

@@ -3,6 +3,7 @@
 from bothwheels.errors import Broken, CanNot, TooMany, Unfit
 from bothwheels.fractions import as_fraction, less_than
 from bothwheels.kinds import are_numbers, is_number, with_tuples
+from bothwheels.led import rising_rows
 from bothwheels.rings import last_up_to, told_at
 from bothwheels.turnings import turning
 from bothwheels.wheels import as_wheel, is_wheel, led_to
@@ -196,14 +197,6 @@ def row_wheel(row, goal, ring):
     return _row_wheel(told, top, ring)
 
 
-def _rising_rows(ring, many):
-    """The list of all rows of so many places of a ring, none below the one ahead."""
-    found = [(place,) for place in range(ring)]
-    for _ in range(many - 1):
-        found = [row + (place,) for row in found for place in range(row[-1], ring)]
-    return found
-
-
 def _as_wheel_and_goal(wheel, goal):
     """The pair of WHEEL and FRACTION that these are; Unfit(), then TooMany() beyond the limits."""
     told = as_wheel(wheel)
@@ -216,7 +209,7 @@ def _as_wheel_and_goal(wheel, goal):
 def _nearest(wheel, goal):
     """The WHEEL that turns by goal or more, wheel or a greater one, for which fewest TEETH do."""
     top, bottom = goal
-    rising = [_row_wheel(row, top, len(wheel)) for row in _rising_rows(len(wheel), bottom)]
+    rising = [_row_wheel(row, top, len(wheel)) for row in rising_rows(bottom, 0, len(wheel) - 1)]
     ends = [greater(wheel, own) for own in rising]
     return min(ends, key=sum)
 

@@ -283,6 +283,14 @@ class UndoAndRedo(unittest.TestCase):
         self.assertRaises(NothingDone, desk.undo)
         self.assertEqual([desk.redo() for k in range(4)], [1, 1, 1, 1])
 
+    def test_answered_done_by_the_names(self):
+        # The only NAME is "done": so a line names is answered, and the say can be taken back.
+        desk = Desk()
+        desk.say("wheel done 1")
+        self.assertEqual(desk.say("names"), ("done",))
+        self.assertEqual([desk.undo(), desk.undo()], [1, 0])
+        self.assertRaises(NothingDone, desk.undo)
+
     def test_drawn(self):
         """Beside a history told out: all states, and which of them is now."""
         draw = random.Random(392)

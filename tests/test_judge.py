@@ -274,7 +274,8 @@ class Teeth(Judged):
         self.assertEqual(reason_for(at), ((0, 1),) * 2000)
         above = ("teeth", (0,), (2001,), 10 ** 6)
         self.assertRaises(TooMany, reason_for, above)
-        self.assertRaises(TooMany, reason_for, ("teeth", (0,), (2001,), 0))
+        # Where it falls no PLAN is told.
+        self.assertIsNone(reason_for(("teeth", (0,), (2001,), 2000)))
         self.assertEqual((is_so(above), paper_against(above)), (True, None))
         self.assertEqual(paper_against(("teeth", (0,), (2001,), 2000)), (2001,))
         self.assertIs(is_reason_for(above, ((0, 1),) * 2001), True)

@@ -158,6 +158,11 @@ class Names(unittest.TestCase):
             taken |= {own.name for own in TREES[name].body if isinstance(own, ast.ClassDef)}
             self.assertEqual(sorted(taken & set(bound(node))), [], (name, node.name))
 
+    def test_underscore_alone_is_never_read(self):
+        for name, node in walked(ast.Name):
+            if node.id == "_":
+                self.assertIsInstance(node.ctx, ast.Store, (name, node.lineno))
+
     def test_two_underscores(self):
         for name, text in TEXTS.items():
             self.assertEqual(set(re.findall(r"\b__\w+", text)) - {"__init__", "__eq__"}, set(), name)
@@ -177,6 +182,30 @@ class Code(unittest.TestCase):
         for name, tree in TREES.items():
             for node in tree.body:
                 self.assertEqual(getattr(node, "decorator_list", []), [], (name, node.lineno))
+
+    def test_no_stars_no_lambdas_no_generators(self):
+        kinds = (ast.Starred, ast.Lambda, ast.Yield, ast.YieldFrom, ast.GeneratorExp, ast.Nonlocal, ast.With, ast.Match)
+        self.assertEqual([(name, node.lineno) for name, node in walked(kinds)], [])
+
+    def test_each_function_tells_what_it_is_for(self):
+        for name, node in walked((ast.FunctionDef, ast.ClassDef)):
+            if not node.name.startswith("__"):
+                self.assertIsNotNone(ast.get_docstring(node), (name, node.name))
+
+    def test_sets_are_sorted_or_measured_at_once(self):
+        for name, tree in TREES.items():
+            fine = [
+                own for node in ast.walk(tree) if isinstance(node, ast.Call) and isinstance(node.func, ast.Name)
+                and node.func.id in ("sorted", "len") for own in node.args
+            ]
+            for node in ast.walk(tree):
+                if isinstance(node, (ast.Set, ast.SetComp)) or isinstance(node, ast.Call) and getattr(node.func, "id", "") == "set":
+                    self.assertIn(node, fine, (name, node.lineno))
+
+    def test_only_own_errors_are_caught(self):
+        own = set(at_top("errors.py"))
+        for name, node in walked(ast.ExceptHandler):
+            self.assertIn(node.type.id, own, (name, node.lineno))
 
     def test_no_floats_and_no_barred_signs_in_strings(self):
         for name, node in walked(ast.Constant):
