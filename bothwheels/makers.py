@@ -58,7 +58,7 @@ def _is_finer_pair(wheel, thing):
     if not isinstance(thing, tuple) or len(thing) != 2:
         return False
     other, many = thing
-    return is_wheel(other) and is_number(many) and many >= 1 and len(other) == many * len(wheel)
+    return is_wheel(other) and is_number(many) and len(other) == many * len(wheel)
 
 
 def _is_no_less(wheel, other, many):

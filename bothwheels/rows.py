@@ -118,7 +118,6 @@ def row_turning(word, row, numbers):
     letters = as_word(row)
     steps = _as_numbers(numbers)
     _refuse_unlike(letters, len(steps))
-    _refuse_unlike(told, len(steps))
     return turning(word_wheel(_led_on(letters, steps), told))
 
 

@@ -192,7 +192,7 @@ def row_wheel(row, goal, ring):
     top, bottom = as_fraction(goal)
     if not isinstance(told, tuple) or not are_numbers(told) or len(told) != bottom:
         raise Unfit()
-    if not is_number(ring) or ring < 1 or not _is_rising_in(told, ring):
+    if not is_number(ring) or not _is_rising_in(told, ring):
         raise Unfit()
     return _row_wheel(told, top, ring)
 

@@ -95,9 +95,9 @@ def _some_rows_of(text):
 
 
 def _numbers_behind(word, row):
-    """The numbers of a row of word and number pieces, one or more; None if it is no such row."""
+    """The numbers of a row of word and number pieces, None if it is no such row."""
     numbers = tuple([number_of(piece) for piece in row[1:]])
-    if row[0] != word or numbers == () or None in numbers:
+    if row[0] != word or None in numbers:
         return None
     return numbers
 
