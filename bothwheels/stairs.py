@@ -61,11 +61,11 @@ def _steps_below(low, high, fraction, most):
     return room if step == 0 else min(room, (gap - 1) // step)
 
 
-def _steps_above(low, high, fraction, most):
-    """How many times low may be added to high, not below fraction, with a bottom of at most most."""
+def _steps_above(low, high, fraction):
+    """How many times low may be added to high, not below fraction."""
     gap = high[0] * fraction[1] - fraction[0] * high[1]
     step = fraction[0] * low[1] - low[0] * fraction[1]
-    return min((most - high[1]) // low[1], gap // step)
+    return gap // step
 
 
 def _moved(one, other, steps):
@@ -83,7 +83,7 @@ def just_below(fraction, most):
     # at least both together.
     while low[1] + high[1] <= limit:
         low = _moved(low, high, _steps_below(low, high, goal, limit))
-        high = _moved(high, low, _steps_above(low, high, goal, limit))
+        high = _moved(high, low, _steps_above(low, high, goal))
     return low
 
 

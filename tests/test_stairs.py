@@ -169,6 +169,12 @@ class LeastBeside(unittest.TestCase):
         self.assertEqual(least_beside((0, 1), (10 ** 6, 1), 0, (0, 1)), (10 ** 6 - 1, 1))
         self.assertEqual(least_beside((0, 0, 1), (-10 ** 6, 1), 0, (0, 1)), pair(slow_shifted(10 ** 6)))
 
+    def test_of_the_greatest_bottom(self):
+        for goal, turn in (((1, 2), (-1, 2)), ((3, 2), (1, 2)), ((3, 2), (3, 2)), ((7, 2), (1, 2))):
+            told = least_beside((0, 0, 0, 1), goal, 0, turn)
+            self.assertEqual(value(told), slow_beside((0, 0, 0, 1), value(goal), 0, value(turn)))
+            self.assertEqual(told[1], most_bottoms((0, 0, 0, 1), goal)[0])
+
     def test_just_at_8_and_above(self):
         self.assertEqual(least_beside(STEEP, GOAL, 0, (1, 4)), pair(slow_beside(STEEP, Fraction(3, 2), 0, Fraction(1, 4))))
         self.assertRaises(TooMany, least_beside, STEEP, GOAL, 0, (1, 5))
@@ -347,8 +353,24 @@ class Papers(unittest.TestCase):
             self.assertRaises(CanNot, corner_paper, STEEP, GOAL, turns)
             self.assertIs(is_corner_paper(STEEP, GOAL, turns, (row, one, other)), False)
             self.assertIs(is_corner(STEEP, GOAL, turns), False)
+        # These are just as near to the stairs as CORNERS are, but not from 0 to below 1.
+        for word, goal, turns in (
+            ((0, 1), (2, 1), ((1, 1), (0, 1))), ((0, 1), (2, 1), ((0, 1), (1, 1))), ((0, 1), (2, 1), ((2, 1), (-1, 1))),
+            ((0, 1), (1, 1), ((-1, 1), (1, 1))), ((0, 1), (3, 2), ((3, 2), (-1, 2))), ((0, 1), (3, 2), ((-1, 2), (3, 2))),
+        ):
+            one, other = self.parts(word, goal, turns)
+            row = self.good_rows(word, goal, turns)[0]
+            self.assertTrue(one is not None and other is not None)
+            self.assertNotIn(turns, corners(word, goal))
+            self.assertIs(is_corner(word, goal, turns), False)
+            self.assertIs(is_corner_paper(word, goal, turns, (row, one, other)), False)
+            self.assertRaises(CanNot, corner_paper, word, goal, turns)
         # Greater than what could be told, and not TooMany().
-        for turns in (((1, 99), (1, 98)), ((1, 5), HALF), ((10 ** 6, 10 ** 6 + 1), (0, 1))):
+        for turns in (
+            ((1, 99), (1, 98)), ((1, 5), HALF), ((10 ** 6, 10 ** 6 + 1), (0, 1)), ((0, 1), (1, 10 ** 4)), ((1, 10 ** 4), (0, 1)),
+            ((0, 1), (9999, 10 ** 4)), ((9999, 10 ** 4), (0, 1)),
+        ):
+            self.assertIs(is_corner(STEEP, GOAL, turns), False)
             self.assertRaises(CanNot, corner_paper, STEEP, GOAL, turns)
             self.assertIs(is_corner_paper(STEEP, GOAL, turns, (row, one, other)), False)
 
