@@ -97,7 +97,12 @@ class TheRows(unittest.TestCase):
             self.assertEqual(told, sorted(set([min(all_turned(row)) for row in told])))
         self.assertEqual(many_apart((1, 599)), 600)
         self.assertEqual(rows((1, 599)), [(0,) + (1,) * 599])
-        for counts in ((1, 600), (600, 1), (4, 4, 1), (1, 1, 24), (7, 6), (3, 3, 3), (1,) * 6, (12, 12)):
+        # Of up to 24 letters together the nearest are 560 and 630.
+        for counts in ((3, 3, 2), (13, 3)):
+            self.assertEqual(many_apart(counts), 560)
+            self.assertEqual(len(rows(counts)), many_rows(counts))
+        self.assertEqual([many_apart(counts) for counts in ((4, 4, 1), (2, 2, 2, 1))], [630, 630])
+        for counts in ((2, 2, 2, 1), (1, 600), (600, 1), (4, 4, 1), (1, 1, 24), (7, 6), (3, 3, 3), (1,) * 6, (12, 12)):
             self.assertGreater(many_apart(counts), 600)
             self.assertRaises(TooMany, rows, counts)
         self.assertEqual(many_apart((16, 3)), 969)
